@@ -1,0 +1,1 @@
+"""Spreadstates: entropy coding by tables of states."""

@@ -1,0 +1,87 @@
+"""What arguments must be, as far as several files of the package ask for it."""
+
+from spreadstates.errors import InvalidBound, InvalidText
+from spreadstates.wholes import is_within
+
+MOST_SYMBOLS = 1000
+LONGEST_TEXT = 10000
+GREATEST_NUMBER = 10 ** 30
+MOST_BITS = 12
+
+
+def is_symbol(value):
+    """Whether a value is a symbol."""
+    return is_within(value, 0, MOST_SYMBOLS - 1)
+
+
+def is_bits(value):
+    """Whether a value is an R, the number of bits of a state."""
+    return is_within(value, 1, MOST_BITS)
+
+
+def is_size(total):
+    """Whether an integer of at least 1 is an L, a number of states."""
+    return 2 <= total <= 1 << MOST_BITS and total & (total - 1) == 0
+
+
+def is_entry(value):
+    """Whether a value is a tuple of a symbol and a number."""
+    if not isinstance(value, tuple) or len(value) != 2:
+        return False
+    return is_symbol(value[0]) and is_within(value[1], 1, GREATEST_NUMBER)
+
+
+def is_numbers(value):
+    """Whether a value is a list of numbers."""
+    if not isinstance(value, list) or not 1 <= len(value) <= MOST_SYMBOLS:
+        return False
+    ahead = -1
+    for item in value:
+        if not is_entry(item) or item[0] <= ahead:
+            return False
+        ahead = item[0]
+    return True
+
+
+def is_counts(value):
+    """Whether a value is a list of counts."""
+    return is_numbers(value) and is_size(sum_of(value))
+
+
+def sum_of(numbers):
+    """The sum of numbers, or of counts."""
+    return sum([number for _, number in numbers])
+
+
+def symbols_of(numbers):
+    """The symbols of numbers, or of counts."""
+    return [symbol for symbol, _ in numbers]
+
+
+def check_text(text):
+    """Raises InvalidText for what is no text; the empty text is one."""
+    if not isinstance(text, list):
+        raise InvalidText(-1)
+    for at, item in enumerate(text[:LONGEST_TEXT]):
+        if not is_symbol(item):
+            raise InvalidText(at)
+    if len(text) > LONGEST_TEXT:
+        raise InvalidText(LONGEST_TEXT)
+
+
+def check_numbers(numbers):
+    """Raises InvalidBound for what is no list of numbers."""
+    if not is_numbers(numbers):
+        raise InvalidBound("numbers")
+
+
+def check_counts(counts):
+    """Raises InvalidBound for what is no list of counts."""
+    if not is_counts(counts):
+        raise InvalidBound("counts")
+
+
+def check_bits(bits):
+    """Raises InvalidBound for what is no number of bits of a state."""
+    if not is_bits(bits):
+        raise InvalidBound("bits")

@@ -1,0 +1,135 @@
+"""Numbers of texts, and counts of states for them."""
+
+from heapq import heapify, heapreplace
+
+from spreadstates.checks import check_bits, check_numbers, check_text
+from spreadstates.checks import is_counts, sum_of, symbols_of
+from spreadstates.errors import InvalidBound, InvalidText, LimitExceeded
+from spreadstates.wholes import power
+
+MOST_PRODUCT_BITS = 8
+MOST_PRODUCT_SUM = 2000
+
+
+def numbers_of(text):
+    """The tuples (symbol, number) of a text, ascending by the symbol."""
+    check_text(text)
+    if len(text) == 0:
+        raise InvalidText(0)
+    numbers = {}
+    for symbol in text:
+        numbers[symbol] = numbers.get(symbol, 0) + 1
+    return sorted(numbers.items())
+
+
+def by_rests(numbers, bits):
+    """Counts in proportion to numbers; what is missing goes by the rests of the division."""
+    check_counting(numbers, bits)
+    size = 1 << bits
+    total = sum_of(numbers)
+    counts = [max(1, number * size // total) for _, number in numbers]
+    missing = size - sum(counts)
+    if missing < 0:
+        return named(numbers, lessened(counts, -missing))
+    for at in places_by_rests(numbers, size)[:missing]:
+        counts[at] += 1
+    return named(numbers, counts)
+
+
+def by_product(numbers, bits):
+    """The counts with the greatest product, made by the greatest gain each time."""
+    check_counting(numbers, bits)
+    if bits > MOST_PRODUCT_BITS:
+        raise LimitExceeded(MOST_PRODUCT_BITS)
+    check_product_sum(numbers)
+    counts = [1] * len(numbers)
+    gains = [gain(1, number) for _, number in numbers]
+    for _ in range((1 << bits) - len(numbers)):
+        at = place_of_greatest(gains)
+        counts[at] += 1
+        gains[at] = gain(counts[at], numbers[at][1])
+    return named(numbers, counts)
+
+
+def product_order(numbers, counts, others):
+    """-1, 0 or 1: whether the product of `counts` is less than that of `others`, equal or greater."""
+    check_numbers(numbers)
+    if not are_counts_for(counts, numbers):
+        raise InvalidBound("counts")
+    if not are_counts_for(others, numbers):
+        raise InvalidBound("others")
+    check_product_sum(numbers)
+    one = product_of(numbers, counts)
+    other = product_of(numbers, others)
+    if one < other:
+        return -1
+    return 1 if one > other else 0
+
+
+def check_counting(numbers, bits):
+    """Raises the errors of making counts for numbers."""
+    check_numbers(numbers)
+    check_bits(bits)
+    if len(numbers) > 1 << bits:
+        raise LimitExceeded(1 << bits)
+
+
+def check_product_sum(numbers):
+    """Raises LimitExceeded for numbers whose products become too long."""
+    if sum_of(numbers) > MOST_PRODUCT_SUM:
+        raise LimitExceeded(MOST_PRODUCT_SUM)
+
+
+def named(numbers, counts):
+    """The tuples (symbol, count) for a list of mere counts."""
+    return list(zip(symbols_of(numbers), counts))
+
+
+def places_by_rests(numbers, size):
+    """The indices of the numbers with a share of at least 1, by their rests, the greatest first."""
+    total = sum_of(numbers)
+    places = []
+    for at, (_, number) in enumerate(numbers):
+        if number * size >= total:
+            places.append((-(number * size % total), at))
+    return [at for _, at in sorted(places)]
+
+
+def lessened(counts, many):
+    """The counts behind taking one from the first of the greatest, `many` times."""
+    fewer = list(counts)
+    # A thousand counts may lack as many states, so the greatest is not sought anew each time.
+    queue = [(-count, at) for at, count in enumerate(counts)]
+    heapify(queue)
+    for _ in range(many):
+        at = queue[0][1]
+        fewer[at] -= 1
+        heapreplace(queue, (-fewer[at], at))
+    return fewer
+
+
+def gain(count, number):
+    """The factor of the product by one more than a count, as (numerator, denominator)."""
+    return power(count + 1, number), power(count, number)
+
+
+def place_of_greatest(gains):
+    """The index of the first of the greatest gains."""
+    best = 0
+    for at, (above, below) in enumerate(gains):
+        if above * gains[best][1] > gains[best][0] * below:
+            best = at
+    return best
+
+
+def are_counts_for(counts, numbers):
+    """Whether a value is a list of counts with the symbols of the numbers."""
+    return is_counts(counts) and symbols_of(counts) == symbols_of(numbers)
+
+
+def product_of(numbers, counts):
+    """The product of all count ** number."""
+    product = 1
+    for (_, number), (_, count) in zip(numbers, counts):
+        product = product * power(count, number)
+    return product

@@ -1,0 +1,93 @@
+"""Spreads: in which states the symbols stand."""
+
+from spreadstates.checks import check_bits, check_counts, sum_of
+from spreadstates.errors import InvalidBound
+from spreadstates.wholes import is_integer, is_within
+
+
+def spread_by_steps(counts, rare=()):
+    """The spread that goes through the places by a step; rare symbols get the last places."""
+    check_counts(counts)
+    if not are_rare(rare, counts):
+        raise InvalidBound("rare")
+    size = sum_of(counts)
+    spread = [0] * size
+    for at, symbol in enumerate(rare):
+        spread[size - 1 - at] = symbol
+    apart = set(rare)
+    laid = [symbol for symbol in runs_of(counts) if symbol not in apart]
+    for place, symbol in zip(places_by_steps(size, len(rare)), laid):
+        spread[place] = symbol
+    return spread
+
+
+def spread_by_runs(counts):
+    """The spread with the symbols in ascending order."""
+    check_counts(counts)
+    return runs_of(counts)
+
+
+def spread_by_bits(counts):
+    """The spread by runs, with the bits of each place turned about."""
+    check_counts(counts)
+    runs = runs_of(counts)
+    bits = len(runs).bit_length() - 1
+    # Turning about twice changes nothing, so each place finds its item as the item its place.
+    return [runs[turned(place, bits)] for place in range(len(runs))]
+
+
+def spread_by_shares(counts):
+    """The spread by the shares (2 * j + 1) / (2 * count) of the symbols."""
+    check_counts(counts)
+    size = sum_of(counts)
+    # Unlike shares of two counts c and d differ by at least 1 / (2 * c * 2 * d), so times
+    # 4 * size * size they still differ when they are rounded down, and wholes can be sorted.
+    scale = 2 * size * size
+    shares = [((2 * j + 1) * scale // count, symbol) for symbol, count in counts for j in range(count)]
+    return [symbol for _, symbol in sorted(shares)]
+
+
+def order_of_steps(bits, many):
+    """The places in the order of the spread by steps, without those of `many` rare symbols."""
+    check_bits(bits)
+    size = 1 << bits
+    if not is_within(many, 0, size):
+        raise InvalidBound("many")
+    return places_by_steps(size, many)
+
+
+def are_rare(value, counts):
+    """Whether a value is an ascending list of symbols with the count 1, or ()."""
+    if isinstance(value, tuple):
+        return len(value) == 0
+    if not isinstance(value, list):
+        return False
+    single = {symbol for symbol, count in counts if count == 1}
+    ahead = -1
+    for symbol in value:
+        if not is_integer(symbol) or symbol <= ahead or symbol not in single:
+            return False
+        ahead = symbol
+    return True
+
+
+def runs_of(counts):
+    """The symbols of counts in ascending order, each as often as its count."""
+    return [symbol for symbol, count in counts for _ in range(count)]
+
+
+def places_by_steps(size, many):
+    """The places ahead of the last `many` ones, in the order in which the step reaches them."""
+    step = size // 2 + size // 8 + 3
+    if step & 1 == 0:
+        step += 1
+    places = [turn * step % size for turn in range(size)]
+    return [place for place in places if place < size - many]
+
+
+def turned(number, bits):
+    """The number whose bits are those of a number, turned about."""
+    result = 0
+    for at in range(bits):
+        result = result * 2 + (number >> at & 1)
+    return result
