@@ -1,6 +1,6 @@
 """What arguments must be, as far as several files of the package ask for it."""
 
-from spreadstates.errors import InvalidBound, InvalidText
+from spreadstates.errors import InvalidBound, InvalidSpread, InvalidStream, InvalidText
 from spreadstates.wholes import is_within
 
 MOST_SYMBOLS = 1000
@@ -20,7 +20,7 @@ def is_bits(value):
 
 
 def is_size(total):
-    """Whether an integer of at least 1 is an L, a number of states."""
+    """Whether an integer is an L, a number of states."""
     return 2 <= total <= 1 << MOST_BITS and total & (total - 1) == 0
 
 
@@ -58,15 +58,59 @@ def symbols_of(numbers):
     return [symbol for symbol, _ in numbers]
 
 
+def first_wrong(items, greatest):
+    """The index of the first item that is no integer from 0 to the greatest one, -1 if there is none."""
+    # Lists are long and mostly right: they are looked through at once, without a call for each item.
+    wrong = [item for item in items
+             if not isinstance(item, int) or item is True or item is False or not 0 <= item <= greatest]
+    if not wrong:
+        return -1
+    at = 0
+    while is_within(items[at], 0, greatest):
+        at += 1
+    return at
+
+
+def is_stream(value):
+    """Whether a value is a list of bits."""
+    return isinstance(value, list) and first_wrong(value, 1) < 0
+
+
 def check_text(text):
     """Raises InvalidText for what is no text; the empty text is one."""
     if not isinstance(text, list):
         raise InvalidText(-1)
-    for at, item in enumerate(text[:LONGEST_TEXT]):
-        if not is_symbol(item):
-            raise InvalidText(at)
+    at = first_wrong(text[:LONGEST_TEXT], MOST_SYMBOLS - 1)
+    if at >= 0:
+        raise InvalidText(at)
     if len(text) > LONGEST_TEXT:
         raise InvalidText(LONGEST_TEXT)
+
+
+def check_spread(spread):
+    """Raises InvalidSpread for what is no spread for a table."""
+    if not isinstance(spread, list):
+        raise InvalidSpread(-1)
+    if not is_size(len(spread)):
+        raise InvalidSpread(len(spread))
+    at = first_wrong(spread, MOST_SYMBOLS - 1)
+    if at >= 0:
+        raise InvalidSpread(at)
+
+
+def check_stream(stream):
+    """Raises InvalidStream for what is no list of bits."""
+    if not isinstance(stream, list):
+        raise InvalidStream(-1)
+    at = first_wrong(stream, 1)
+    if at >= 0:
+        raise InvalidStream(at)
+
+
+def check_many(many):
+    """Raises InvalidBound for what is no number of symbols of a text."""
+    if not is_within(many, 0, LONGEST_TEXT):
+        raise InvalidBound("many")
 
 
 def check_numbers(numbers):

@@ -1,4 +1,6 @@
-"""Whole numbers."""
+"""Whole numbers, their bits, and fractions of them."""
+
+from math import gcd
 
 
 def is_integer(value):
@@ -22,3 +24,22 @@ def power(base, exponent):
         square = square * square
         rest = rest >> 1
     return result
+
+
+def lowest(above, below):
+    """The fraction of two integers in lowest terms, the lower one being at least 1."""
+    common = gcd(above, below)
+    return above // common, below // common
+
+
+def number_of(bits):
+    """The number that a list of bits makes."""
+    number = 0
+    for bit in bits:
+        number = 2 * number + bit
+    return number
+
+
+def bits_of(number, width):
+    """The list of the bits of a number."""
+    return [number >> at & 1 for at in range(width - 1, -1, -1)]

@@ -3,8 +3,10 @@
 import random
 
 from spreadstates import errors
+from spreadstates.tables import Table
 
 SMALL = [(0, 5), (1, 2), (2, 1)]
+SPREAD = [0, 0, 0, 0, 0, 1, 1, 2]
 FIELDS = {
     "InvalidText": "at", "InvalidSpread": "at", "InvalidSymbol": "symbol", "InvalidStream": "at",
     "InvalidHeader": "at", "InvalidBound": "argument", "InvalidCall": "call", "LimitExceeded": "limit",
@@ -38,7 +40,7 @@ def kinds_of_values():
         "NotImplemented": NotImplemented, "object": object(), "int": int, "list": list, "len": len,
         "function": nested, "iterator": iter([1]), "generator": (item for item in [1]), "zip": zip([1], [2]),
         "module": errors, "class": errors.InvalidText, "base error": errors.SpreadError(),
-        "error of Python": ValueError("text"),
+        "error of Python": ValueError("text"), "a table": Table([0, 1]), "class of tables": Table,
         "deep tuple": nested(lambda value: (value,)), "deep dict": nested(lambda value: {0: value}),
         "deep list in a tuple": (nested(lambda value: [value]),),
     }
@@ -136,6 +138,56 @@ def limit(number):
 def text_error(at):
     """What `told` returns for InvalidText."""
     return ("InvalidText", {"at": at})
+
+
+def symbol_error(symbol):
+    """What `told` returns for InvalidSymbol."""
+    return ("InvalidSymbol", {"symbol": symbol})
+
+
+def stream_error(at):
+    """What `told` returns for InvalidStream."""
+    return ("InvalidStream", {"at": at})
+
+
+def spread_error(at):
+    """What `told` returns for InvalidSpread."""
+    return ("InvalidSpread", {"at": at})
+
+
+def no_tables():
+    """Values that are no table, by names."""
+    found = wrong_lists()
+    found.update({"small spread": SPREAD, "rows": Table(SPREAD).rows()})
+    del found["a table"]
+    return found
+
+
+def wrong_texts():
+    """Values that are no text, by names, with the number that InvalidText tells."""
+    found = {name: (value, -1) for name, value in wrong_lists().items() if not isinstance(value, list)}
+    for name, item in wrong_items().items():
+        found["text of " + name] = ([item], 0)
+        found["late " + name] = ([0, 1, item, item], 2)
+        found["behind a longer text " + name] = ([0] * 10000 + [item], 10000)
+    found.update({
+        "symbol below 0": ([0, -1, 2], 1), "great symbol": ([1000], 0), "pair": ([0, (0, 2)], 1),
+        "far symbol": ([0, 1, 10 ** 40], 2), "longer text": ([0] * 10001, 10000), "wrong at the end": ([0] * 9999 + [-1], 9999),
+    })
+    return found
+
+
+def wrong_streams():
+    """Values that are no list of bits, by names, with the number that InvalidStream tells."""
+    found = {name: (value, -1) for name, value in wrong_lists().items() if not isinstance(value, list)}
+    for name, item in wrong_items().items():
+        found["stream of " + name] = ([item], 0)
+        found["late " + name] = ([0, 1, 0, 1, 1, 1, 1, item, 2], 7)
+    found.update({
+        "below 0": ([0, -1, 1], 1), "two": ([0, 1, 2], 2), "pair": ([(0, 1)], 0), "far": ([0] * 3 + [10 ** 40], 3),
+        "after many": ([1] * 100000 + [True], 100000),
+    })
+    return found
 
 
 def drawn_counts(seed, bits, many):

@@ -1,8 +1,9 @@
 """is_integer: True for integers alone (points 2 and 4); and what the package itself uses besides."""
 
 import unittest
+from fractions import Fraction
 
-from spreadstates.wholes import is_integer, is_within, power
+from spreadstates.wholes import bits_of, is_integer, is_within, lowest, number_of, power
 from tests.samples import kinds_of_values, wrong_items
 
 
@@ -36,7 +37,21 @@ class Integers(unittest.TestCase):
         for base in (0, 1, 2, 3, 4096, -3):
             for exponent in range(70):
                 self.assertEqual(power(base, exponent), base ** exponent)
-        self.assertEqual(power(257, 2000), 257 ** 2000)
+        for exponent in (127, 128, 2000, 4095, 4096, 4161, 4225, 8191, 300000):
+            self.assertEqual(power(257, exponent), 257 ** exponent)
+
+    def test_fractions_in_lowest_terms(self):
+        for above in range(-12, 13):
+            for below in range(1, 13):
+                expected = Fraction(above, below)
+                self.assertEqual(lowest(above, below), (expected.numerator, expected.denominator))
+
+    def test_bits(self):
+        for width in range(7):
+            for number in range(2 ** width):
+                bits = bits_of(number, width)
+                self.assertEqual(bits, [int(letter) for letter in format(number, "b").rjust(width, "0")][:width])
+                self.assertEqual(number_of(bits), number)
 
 
 if __name__ == "__main__":
