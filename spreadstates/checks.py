@@ -24,28 +24,31 @@ def is_size(total):
     return 2 <= total <= 1 << MOST_BITS and total & (total - 1) == 0
 
 
-def is_entry(value):
-    """Whether a value is a tuple of a symbol and a number."""
-    if not isinstance(value, tuple) or len(value) != 2:
-        return False
-    return is_symbol(value[0]) and is_within(value[1], 1, GREATEST_NUMBER)
-
-
-def is_numbers(value):
-    """Whether a value is a list of numbers."""
+def sum_if_numbers(value):
+    """The sum of a list of numbers, or 0 for what is no such list."""
     if not isinstance(value, list) or not 1 <= len(value) <= MOST_SYMBOLS:
-        return False
+        return 0
     ahead = -1
+    total = 0
+    # Lists are looked through often, so what `is_within` asks stands here without a call for each number.
     for item in value:
-        if not is_entry(item) or item[0] <= ahead:
-            return False
-        ahead = item[0]
-    return True
+        if not isinstance(item, tuple) or len(item) != 2:
+            return 0
+        symbol, number = item
+        if not isinstance(symbol, int) or symbol is True or symbol is False:
+            return 0
+        if not isinstance(number, int) or number is True:
+            return 0
+        if not ahead < symbol < MOST_SYMBOLS or not 1 <= number <= GREATEST_NUMBER:
+            return 0
+        ahead = symbol
+        total += number
+    return total
 
 
 def is_counts(value):
     """Whether a value is a list of counts."""
-    return is_numbers(value) and is_size(sum_of(value))
+    return is_size(sum_if_numbers(value))
 
 
 def sum_of(numbers):
@@ -115,7 +118,7 @@ def check_many(many):
 
 def check_numbers(numbers):
     """Raises InvalidBound for what is no list of numbers."""
-    if not is_numbers(numbers):
+    if sum_if_numbers(numbers) == 0:
         raise InvalidBound("numbers")
 
 

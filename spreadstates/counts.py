@@ -42,9 +42,10 @@ def by_product(numbers, bits):
     if bits > MOST_PRODUCT_BITS:
         raise LimitExceeded(MOST_PRODUCT_BITS)
     check_product_sum(numbers)
-    counts = [1] * len(numbers)
-    gains = [gain(1, number) for _, number in numbers]
-    for _ in range((1 << bits) - len(numbers)):
+    size = 1 << bits
+    counts = surely_reached(numbers, size)
+    gains = [gain(count, number) for count, (_, number) in zip(counts, numbers)]
+    for _ in range(size - sum(counts)):
         at = place_of_greatest(gains)
         counts[at] += 1
         gains[at] = gain(counts[at], numbers[at][1])
@@ -54,13 +55,19 @@ def by_product(numbers, bits):
 def product_order(numbers, counts, others):
     """-1, 0 or 1: whether the product of `counts` is less than that of `others`, equal or greater."""
     check_numbers(numbers)
-    if not are_counts_for(counts, numbers):
+    symbols = symbols_of(numbers)
+    if not is_counts(counts) or symbols_of(counts) != symbols:
         raise InvalidBound("counts")
-    if not are_counts_for(others, numbers):
+    if not is_counts(others) or symbols_of(others) != symbols:
         raise InvalidBound("others")
     check_product_sum(numbers)
-    one = product_of(numbers, counts)
-    other = product_of(numbers, others)
+    one = 1
+    other = 1
+    for (_, number), (_, here), (_, there) in zip(numbers, counts, others):
+        # Equal counts are factors of both products, which they change alike.
+        if here != there:
+            one = one * power(here, number)
+            other = other * power(there, number)
     if one < other:
         return -1
     return 1 if one > other else 0
@@ -108,6 +115,17 @@ def lessened(counts, many):
     return fewer
 
 
+def surely_reached(numbers, size):
+    """Counts that all symbols get at least, if one more goes to the greatest gain each time."""
+    # The logarithm of (c + 1) / c is between 1 / (c + 1) and 1 / c. Let g be the least logarithm of a
+    # gain that is taken, and f the count of a symbol at last. Then number / (f - 1) is greater than g
+    # if f is not 1, so the sum of all f - 1, size less the symbols, is less than total / g; and
+    # number / (f + 1) is less than g. So f + 1 is greater than number * (size less symbols) / total.
+    spare = size - len(numbers)
+    total = sum_of(numbers)
+    return [max(1, number * spare // total) for _, number in numbers]
+
+
 def gain(count, number):
     """The factor of the product by one more than a count, as (numerator, denominator)."""
     return power(count + 1, number), power(count, number)
@@ -120,16 +138,3 @@ def place_of_greatest(gains):
         if above * gains[best][1] > gains[best][0] * below:
             best = at
     return best
-
-
-def are_counts_for(counts, numbers):
-    """Whether a value is a list of counts with the symbols of the numbers."""
-    return is_counts(counts) and symbols_of(counts) == symbols_of(numbers)
-
-
-def product_of(numbers, counts):
-    """The product of all count ** number."""
-    product = 1
-    for (_, number), (_, count) in zip(numbers, counts):
-        product = product * power(count, number)
-    return product

@@ -31,9 +31,8 @@ def spread_by_bits(counts):
     """The spread by runs, with the bits of each place turned about."""
     check_counts(counts)
     runs = runs_of(counts)
-    bits = len(runs).bit_length() - 1
     # Turning about twice changes nothing, so each place finds its item as the item its place.
-    return [runs[turned(place, bits)] for place in range(len(runs))]
+    return [runs[item] for item in turned_places(len(runs))]
 
 
 def spread_by_shares(counts):
@@ -73,7 +72,10 @@ def are_rare(value, counts):
 
 def runs_of(counts):
     """The symbols of counts in ascending order, each as often as its count."""
-    return [symbol for symbol, count in counts for _ in range(count)]
+    runs = []
+    for symbol, count in counts:
+        runs.extend([symbol] * count)
+    return runs
 
 
 def places_by_steps(size, many):
@@ -85,9 +87,10 @@ def places_by_steps(size, many):
     return [place for place in places if place < size - many]
 
 
-def turned(number, bits):
-    """The number whose bits are those of a number, turned about."""
-    result = 0
-    for at in range(bits):
-        result = result * 2 + (number >> at & 1)
-    return result
+def turned_places(size):
+    """The places in order, each with its bits turned about."""
+    turned = [0]
+    # One bit more is the last one where the turned place is even or odd, and the first one in the order.
+    while len(turned) < size:
+        turned = [2 * place for place in turned] + [2 * place + 1 for place in turned]
+    return turned

@@ -15,15 +15,11 @@ def is_within(value, least, most):
 
 def power(base, exponent):
     """The power of an integer, with an exponent of at least 0."""
-    result = 1
-    square = base
-    rest = exponent
-    while rest > 0:
-        if rest & 1:
-            result = result * square
-        square = square * square
-        rest = rest >> 1
-    return result
+    # An exponent of two stars must be small, so a greater one is taken apart into digits to the base 64.
+    result = base ** (int(exponent) % 64)
+    if exponent < 64:
+        return result
+    return result * power(base ** 64, exponent // 64)
 
 
 def lowest(above, below):
