@@ -1,7 +1,7 @@
 """What arguments must be, as far as several files of the package ask for it."""
 
-from spreadstates.errors import InvalidBound, InvalidSpread, InvalidStream, InvalidText
-from spreadstates.wholes import is_within
+from spreadstates.errors import InvalidBound, InvalidSpread, InvalidStream, InvalidSymbol, InvalidText
+from spreadstates.wholes import is_integer, is_within
 
 MOST_SYMBOLS = 1000
 LONGEST_TEXT = 10000
@@ -79,6 +79,23 @@ def is_stream(value):
     return isinstance(value, list) and first_wrong(value, 1) < 0
 
 
+def is_text(value):
+    """Whether a value is a text."""
+    return isinstance(value, list) and len(value) <= LONGEST_TEXT and first_wrong(value, MOST_SYMBOLS - 1) < 0
+
+
+def is_ascending(value, known):
+    """Whether a value is a list of integers, each greater than the one ahead of it, that a dict has as keys."""
+    if not isinstance(value, list):
+        return False
+    ahead = -1
+    for item in value:
+        if not is_integer(item) or item <= ahead or item not in known:
+            return False
+        ahead = item
+    return True
+
+
 def check_text(text):
     """Raises InvalidText for what is no text; the empty text is one."""
     if not isinstance(text, list):
@@ -88,6 +105,13 @@ def check_text(text):
         raise InvalidText(at)
     if len(text) > LONGEST_TEXT:
         raise InvalidText(LONGEST_TEXT)
+
+
+def check_symbols(text, known):
+    """Raises InvalidSymbol with the first symbol of a text that a dict has not as a key."""
+    strange = [symbol for symbol in text if symbol not in known]
+    if strange:
+        raise InvalidSymbol(strange[0])
 
 
 def check_spread(spread):

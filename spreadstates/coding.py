@@ -1,7 +1,7 @@
 """Writing texts as streams of bits, and reading them."""
 
-from spreadstates.checks import check_many, check_stream, check_text, is_stream
-from spreadstates.errors import InvalidBound, InvalidStream, InvalidSymbol
+from spreadstates.checks import check_many, check_stream, check_symbols, check_text, is_stream
+from spreadstates.errors import InvalidBound, InvalidStream
 from spreadstates.tables import check_state, check_table
 from spreadstates.wholes import bits_of, number_of
 
@@ -13,15 +13,8 @@ def write(table, text, last=0):
     check_writing(table, text)
     check_state(table, last, "last")
     passed, state = written(table, text, last)
-    # All bits are laid from the last one to the first one, as the symbols are, and then turned about.
-    stream = []
-    for whole, bits in passed:
-        for at in range(bits):
-            stream.append(whole >> at & 1)
-    for at in range(table.bits()):
-        stream.append(state >> at & 1)
-    stream.reverse()
-    return stream
+    passed.append((state, table.bits()))
+    return laid(passed)
 
 
 def read(table, stream, many):
@@ -102,14 +95,35 @@ def written(table, text, last):
     return passed, state
 
 
+def laid(passed):
+    """The stream of tuples (whole, bits) that are told from the last one to the first one."""
+    # Bits are laid from the last one to the first one, too, and then turned about.
+    stream = []
+    for whole, bits in passed:
+        for at in range(bits):
+            stream.append(whole >> at & 1)
+    stream.reverse()
+    return stream
+
+
+def number_at(stream, at, bits):
+    """The number that some bits of a stream make; InvalidStream if there are too few."""
+    if at + bits > len(stream):
+        raise InvalidStream(len(stream))
+    return number_of(stream[at:at + bits])
+
+
 def passed_in(table, stream, many):
     """The tuple (steps, last, used) of reading; InvalidStream if there are too few bits."""
+    return passed_from(table, number_at(stream, 0, table.bits()), stream, table.bits(), many)
+
+
+def passed_from(table, first, stream, begin, many):
+    """What `passed_in` returns, for reading on from the bit `begin` of a stream in the state `first`."""
     reads = table.reads
-    at = table.bits()
+    state = first
+    at = begin
     end = len(stream)
-    if at > end:
-        raise InvalidStream(end)
-    state = number_of(stream[:at])
     passed = []
     for _ in range(many):
         symbol, bits, base = reads[state]
@@ -124,13 +138,40 @@ def passed_in(table, stream, many):
     return passed, state, at
 
 
+def places_in(table, stream, many):
+    """The tuples (state, used) of a reader who reads `many` symbols, or as many as there are bits for.
+
+    There is one for the first state, and one behind each symbol; none if there are no bits for a state.
+    """
+    if table.bits() > len(stream):
+        return []
+    return places_from(table, number_of(stream[:table.bits()]), stream, table.bits(), many)
+
+
+def places_from(table, first, stream, begin, many):
+    """What `places_in` returns, for reading on from the bit `begin` of a stream in the state `first`."""
+    reads = table.reads
+    state = first
+    at = begin
+    places = [(state, at)]
+    for _ in range(many):
+        _, bits, base = reads[state]
+        if at + bits > len(stream):
+            return places
+        number = 0
+        for bit in stream[at:at + bits]:
+            number = 2 * number + bit
+        state = base + number
+        at += bits
+        places.append((state, at))
+    return places
+
+
 def check_writing(table, text):
     """Raises the errors of a table and a text that is to be written by it."""
     check_table(table)
     check_text(text)
-    strange = [symbol for symbol in text if symbol not in table.ways]
-    if strange:
-        raise InvalidSymbol(strange[0])
+    check_symbols(text, table.ways)
 
 
 def check_reading(table, stream, many):

@@ -3,7 +3,7 @@
 from spreadstates.checks import check_many
 from spreadstates.coding import check_writing, written
 from spreadstates.errors import InvalidBound, LimitExceeded
-from spreadstates.tables import check_state, check_table, check_work, many_wide
+from spreadstates.tables import check_size, check_state, check_table, check_work, many_wide
 from spreadstates.wholes import is_integer, is_within, lowest, power
 
 MOST_LENGTHS = 200000
@@ -112,7 +112,7 @@ def place_of(table, text, last=0):
 def means(table):
     """The least and the greatest mean of all rings."""
     check_table(table)
-    check_states(table)
+    check_size(table, MOST_STATES)
     above, below = least_mean(hops_of(table, -1))
     return least_mean(hops_of(table, 1)), (-above, below)
 
@@ -337,18 +337,12 @@ def is_less(one, other):
     return one[0] * other[1] < other[0] * one[1]
 
 
-def check_states(table):
-    """Raises LimitExceeded for a table with more states than can be looked at in all ways."""
-    if table.size() > MOST_STATES:
-        raise LimitExceeded(MOST_STATES)
-
-
 def check_far(table, many):
     """Raises the errors of a table and a number of symbols that may be great."""
     check_table(table)
     if not is_within(many, 0, FARTHEST):
         raise InvalidBound("many")
-    check_states(table)
+    check_size(table, MOST_STATES)
 
 
 def check_near(table, many):

@@ -1,8 +1,8 @@
 """Spreads: in which states the symbols stand."""
 
-from spreadstates.checks import check_bits, check_counts, sum_of
+from spreadstates.checks import check_bits, check_counts, is_ascending, sum_of
 from spreadstates.errors import InvalidBound
-from spreadstates.wholes import is_integer, is_within
+from spreadstates.wholes import is_within
 
 
 def spread_by_steps(counts, rare=()):
@@ -59,15 +59,7 @@ def are_rare(value, counts):
     """Whether a value is an ascending list of symbols with the count 1, or ()."""
     if isinstance(value, tuple):
         return len(value) == 0
-    if not isinstance(value, list):
-        return False
-    single = {symbol for symbol, count in counts if count == 1}
-    ahead = -1
-    for symbol in value:
-        if not is_integer(symbol) or symbol <= ahead or symbol not in single:
-            return False
-        ahead = symbol
-    return True
+    return is_ascending(value, {symbol: True for symbol, count in counts if count == 1})
 
 
 def runs_of(counts):

@@ -53,10 +53,7 @@ class Table:
         if not is_symbol(symbol) or symbol not in self.ways:
             raise InvalidSymbol(symbol)
         check_state(self, state, "state")
-        edge, wide, places = self.ways[symbol]
-        whole = len(self.symbols) + state
-        bits = wide if whole >= edge else wide - 1
-        return places[(whole >> bits) - len(places)], bits, whole & ((1 << bits) - 1)
+        return way_back(self, symbol, state)
 
 
 def table_of_rows(rows):
@@ -118,6 +115,25 @@ def rows_of(ways, size):
     return rows
 
 
+def way_back(table, symbol, state):
+    """What `before` returns for a symbol and a state of a table."""
+    edge, wide, places = table.ways[symbol]
+    whole = len(table.symbols) + state
+    bits = wide if whole >= edge else wide - 1
+    return places[(whole >> bits) - len(places)], bits, whole & ((1 << bits) - 1)
+
+
+def ways_back(table, symbol):
+    """What `before` returns for a symbol and all states of a table, in their order."""
+    found = [()] * table.size()
+    _, _, places = table.ways[symbol]
+    for place in places:
+        _, bits, base = table.reads[place]
+        for number in range(1 << bits):
+            found[base + number] = (place, bits, number)
+    return found
+
+
 def many_wide(edge, wide, size):
     """How many states of a symbol read `wide` bits: the first ones of them."""
     return (2 * size - edge) >> wide
@@ -133,6 +149,12 @@ def check_state(table, state, name):
     """Raises InvalidBound for what is no state of a table."""
     if not is_within(state, 0, len(table.symbols) - 1):
         raise InvalidBound(name)
+
+
+def check_size(table, most):
+    """Raises LimitExceeded for a table with more states than `most`."""
+    if table.size() > most:
+        raise LimitExceeded(most)
 
 
 def check_work(table, many, most):

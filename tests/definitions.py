@@ -1,5 +1,6 @@
 """Tables, writing and reading word by word as the document has them, apart from the program."""
 
+import functools
 import itertools
 import random
 
@@ -19,6 +20,12 @@ def width_of(spread):
 
 def rows_of(spread):
     """The rows of all states, by point 13."""
+    return list(rows_by_definition(tuple(spread)))
+
+
+@functools.lru_cache(maxsize=256)
+def rows_by_definition(spread):
+    """The rows of all states for a tuple of symbols."""
     size = len(spread)
     counts = {symbol: spread.count(symbol) for symbol in set(spread)}
     met = {symbol: 0 for symbol in counts}
@@ -76,6 +83,42 @@ def read_by_definition(spread, stream, many):
         steps.append((state, symbol, bits, number))
         state = base + number
     return [symbol for _, symbol, _, _ in steps], state, len(stream) - len(rest), steps
+
+
+def places_of(spread, first, bits, most):
+    """The tuples (state, used) of reading from a state as many symbols as there are bits for, at most so many."""
+    rows = rows_of(spread)
+    found = [(first, 0)]
+    while len(found) <= most:
+        state, used = found[-1]
+        _, wide, base = rows[state]
+        number = 0
+        for bit in bits[used:used + wide]:
+            number = 2 * number + bit
+        if used + wide > len(bits):
+            break
+        found.append((base + number, used + wide))
+    return found
+
+
+def readings_of(spread, stream, most):
+    """The tuples (state, bits left) of reading a stream with its first state, none if it has too few bits for it."""
+    width = width_of(spread)
+    if len(stream) < width:
+        return []
+    first = int("".join(str(bit) for bit in stream[:width]), 2)
+    rest = stream[width:]
+    return [(state, rest[used:]) for state, used in places_of(spread, first, rest, most)]
+
+
+def cost_by_definition(spread, text, last):
+    """The bits of a text, without those of the first state."""
+    return len(write_by_definition(spread, text, last)) - width_of(spread)
+
+
+def least_by_definition(spread, text):
+    """The least cost of a text over all last states."""
+    return min(cost_by_definition(spread, text, last) for last in range(len(spread)))
 
 
 def streams_of(spread, many):

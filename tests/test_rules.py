@@ -9,14 +9,15 @@ PACKAGE = os.path.join(os.path.dirname(os.path.dirname(os.path.abspath(__file__)
 LIBRARY = {
     "heapq": {"heappush", "heappop", "heapify", "heapreplace", "heappushpop"},
     "math": {"gcd", "lcm", "isqrt", "comb", "perm", "factorial"},
-    "itertools": {"accumulate", "pairwise", "chain"},
+    "itertools": {"accumulate", "pairwise", "chain", "combinations"},
 }
 # What the language bars in part, and the package leaves out altogether.
 LEFT_OUT = (
     ast.Try, ast.Lambda, ast.GeneratorExp, ast.Yield, ast.YieldFrom, ast.With, ast.Match, ast.Nonlocal, ast.NamedExpr,
     ast.Await, ast.AnnAssign, ast.Assert, ast.Starred, ast.Delete,
 )
-AT_ONCE = ("zip", "enumerate", "reversed", "range", "items", "keys", "values", "accumulate")
+AROUND = ("list", "sorted", "tuple", "zip", "enumerate", "combinations")
+AT_ONCE = ("zip", "enumerate", "reversed", "range", "items", "keys", "values", "accumulate", "combinations")
 BARRED = ("open", "input", "print", "eval", "exec", "map", "type", "float", "round", "hash", "id", "vars", "super")
 
 
@@ -111,7 +112,7 @@ class Rules(unittest.TestCase):
             for node in nodes:
                 if isinstance(node, (ast.For, ast.comprehension)):
                     allowed.add(node.iter)
-                elif isinstance(node, ast.Call) and name_of(node) in ("list", "sorted", "tuple", "zip", "enumerate"):
+                elif isinstance(node, ast.Call) and name_of(node) in AROUND:
                     allowed.update(node.args[:1])
             for node in nodes:
                 if isinstance(node, ast.Call) and name_of(node) in AT_ONCE:
