@@ -36,8 +36,7 @@ def read_whole(table, stream, many, last=None):
     check_reading(table, stream, many)
     check_end(table, last)
     passed, end, used = passed_in(table, stream, many)
-    if used < len(stream):
-        raise InvalidStream(used)
+    check_used(stream, used)
     if last is not None and last != end:
         raise InvalidBound("last")
     return [symbol for _, symbol, _, _ in passed]
@@ -54,8 +53,7 @@ def joined(table, first, many, second):
     """The stream for all symbols of two streams, of which the second one begins where the first one ends."""
     check_reading(table, first, many)
     _, last, used = passed_in(table, first, many)
-    if used < len(first):
-        raise InvalidStream(used)
+    check_used(first, used)
     width = table.bits()
     if not is_stream(second) or second[:width] != bits_of(last, width):
         raise InvalidBound("second")
@@ -185,3 +183,9 @@ def check_end(table, last):
     """Raises InvalidBound for what is neither None nor a state of a table."""
     if last is not None:
         check_state(table, last, "last")
+
+
+def check_used(stream, used):
+    """Raises InvalidStream with the index of the first bit that is left."""
+    if used < len(stream):
+        raise InvalidStream(used)

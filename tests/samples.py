@@ -3,6 +3,7 @@
 import random
 
 from spreadstates import errors
+from spreadstates.desks import Desk
 from spreadstates.tables import Table
 
 SMALL = [(0, 5), (1, 2), (2, 1)]
@@ -41,6 +42,7 @@ def kinds_of_values():
         "function": nested, "iterator": iter([1]), "generator": (item for item in [1]), "zip": zip([1], [2]),
         "module": errors, "class": errors.InvalidText, "base error": errors.SpreadError(),
         "error of Python": ValueError("text"), "a table": Table([0, 1]), "class of tables": Table,
+        "a desk": Desk(2), "class of desks": Desk,
         "deep tuple": nested(lambda value: (value,)), "deep dict": nested(lambda value: {0: value}),
         "deep list in a tuple": (nested(lambda value: [value]),),
     }
@@ -148,6 +150,11 @@ def symbol_error(symbol):
 def stream_error(at):
     """What `told` returns for InvalidStream."""
     return ("InvalidStream", {"at": at})
+
+
+def header_error(at):
+    """What `told` returns for InvalidHeader."""
+    return ("InvalidHeader", {"at": at})
 
 
 def spread_error(at):

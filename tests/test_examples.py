@@ -1,13 +1,17 @@
-"""The examples of points 5 to 48, and the sessions of the document that need these files alone."""
+"""The examples of all points, and the sessions of the document."""
 
 import unittest
 
+from spreadstates.adaptive import adaptive_chance, adaptive_counts, best_block, read_adaptive, write_adaptive
+from spreadstates.alike import alike_classes, are_alike, first_apart, renamed, renaming, written_apart
 from spreadstates.coding import cut, deltas, read, read_whole, steps, write
 from spreadstates.counts import by_product, by_rests, numbers_of, product_order
 from spreadstates.damage import changed, first_unseen, harm, meeting, meeting_bits, turn_counts, verdict
+from spreadstates.desks import Desk, replayed
 from spreadstates.entropy import closed_classes, cost_part, gap_part, ideal_order, ideal_part, is_even
 from spreadstates.entropy import least_table, mean_bits, mean_gap
-from spreadstates.errors import InvalidBound, InvalidSpread, InvalidStream, InvalidText
+from spreadstates.errors import InvalidBound, InvalidCall, InvalidHeader, InvalidSpread, InvalidStream, InvalidText
+from spreadstates.headers import header_of, pack, read_escaped, read_header, shortest_pack, write_escaped
 from spreadstates.lengths import extremes, length_counts, lengths, longest_text, means, place_of, text_at
 from spreadstates.searches import best_spread, cost_of, costs_by_makers, shortest_counts, shortest_table
 from spreadstates.searches import spread_at, spread_index, standing
@@ -138,6 +142,40 @@ class PointsOfDamageAndMore(unittest.TestCase):
         self.assertEqual(tables, [(0, Table([1, 1, 2, 2])), (1, Table([0, 0, 0, 0]))])
 
 
+class PointsOfHeadersAndMore(unittest.TestCase):
+    def setUp(self):
+        self.small = Table([0, 0, 0, 0, 0, 1, 1, 2])
+        self.calls = [("table", "a", [0, 0, 0, 0, 0, 1, 1, 2]), ("block", 0, "a", [0, 2]), ("cut", 0, 1)]
+
+    def test_points_49_to_52(self):
+        self.assertEqual(header_of([(0, 5), (1, 2), (2, 1)]), [0, 0, 1, 1, 1, 0, 1, 1, 0, 1])
+        self.assertEqual(header_of([(3, 2)]), [0, 0, 0, 1, 0, 1, 0, 1])
+        self.assertEqual(read_header([1, 0, 0, 0, 1, 0, 1, 0, 1, 1], 1), ([(3, 2)], 9))
+        self.assertEqual(pack([0, 0, 1], 1), [0, 0, 0, 1, 1, 0, 1, 0, 0, 1, 0])
+        self.assertEqual(write_escaped(Table([0, 0, 0, 9]), [0, 5], 9, 3), [0, 0, 1, 1, 0, 1, 0, 0])
+        self.assertEqual(read_escaped(Table([0, 0, 0, 9]), [0, 0, 1, 1, 0, 1, 0, 0], 2, 9, 3), ([0, 5], 0))
+
+    def test_points_53_to_55(self):
+        self.assertEqual(adaptive_counts([0, 1], 2, 1, 2), [[(0, 2), (1, 2)], [(0, 3), (1, 1)]])
+        self.assertEqual(write_adaptive([0, 1], 2, 1, 2), [0, 1, 1, 0, 0])
+        self.assertEqual(read_adaptive([0, 1, 1, 0, 0], 2, 2, 1, 2), ([0, 1], [0]))
+        self.assertEqual(adaptive_chance([0, 1], 2), (1, 6))
+        self.assertEqual(best_block([0, 1], 2, 2, 2), (4, 2))
+
+    def test_points_56_to_58(self):
+        self.assertEqual(alike_classes(self.small), [[0], [1], [2, 3], [4, 5], [6, 7]])
+        self.assertEqual(first_apart(self.small, 0, self.small, 2), [0])
+        self.assertIs(are_alike(Table([0, 1]), Table([0, 0, 1, 1])), True)
+        self.assertEqual(written_apart(self.small, 2, 3), [0])
+
+    def test_points_59_to_62(self):
+        desk = replayed(3, self.calls)
+        self.assertEqual(desk.costs(), [1, 3])
+        self.assertEqual(desk.entries(), [2, 7, 0])
+        desk.do(("table", "b", [0, 0, 1, 1, 2, 2, 2, 2]))
+        self.assertEqual(desk.best_names(), (5, ["a", "b"]))
+
+
 class Sessions(unittest.TestCase):
     def test_e02(self):
         with self.assertRaises(InvalidText) as caught:
@@ -170,6 +208,17 @@ class Sessions(unittest.TestCase):
         found = [mean_bits(small, [(0, 5), (1, 2), (2, 1)], 0), closed_classes(Table([0, 1]), [0])]
         found += [is_even(small), is_even(Table([0, 1]))]
         self.assertEqual(found, [(49597, 37648), [[0]], False, True])
+
+    def test_e09(self):
+        small = Table([0, 0, 0, 0, 0, 1, 1, 2])
+        found = [alike_classes(small), first_apart(small, 0, small, 2), written_apart(small, 2, 3)]
+        found.append(are_alike(Table([0, 1]), Table([0, 0, 1, 1])))
+        self.assertEqual(found, [[[0], [1], [2, 3], [4, 5], [6, 7]], [0], [0], True])
+
+    def test_e10(self):
+        found = [renamed(Table([0, 0, 5, 0]), [7, 3]).spread(), renaming(Table([0, 1]), Table([9, 4]))]
+        found.append(renaming(Table([0, 1]), Table([2, 2])))
+        self.assertEqual(found, [[7, 7, 3, 7], [9, 4], None])
 
     def test_e203(self):
         small = Table([0, 0, 0, 0, 0, 1, 1, 2])
@@ -208,6 +257,40 @@ class Sessions(unittest.TestCase):
         with self.assertRaises(InvalidStream) as caught:
             completed(small, [0, 2], 1)
         self.assertEqual(caught.exception.at, 1)
+
+    def test_e311(self):
+        calls = [("table", "a", [0, 0, 0, 0, 0, 1, 1, 2]), ("block", 0, "a", [0, 2]), ("cut", 0, 1)]
+        desk = replayed(3, calls)
+        found = [desk.costs(), desk.entries(), desk.written(), desk.best_last()]
+        self.assertEqual(found, [[1, 3], [2, 7, 0], [0, 1, 0, 1, 0, 0, 0], (7, 0)])
+
+    def test_e312(self):
+        desk = Desk(3)
+        found = [desk.do(("table", "a", [0, 0, 0, 0, 0, 1, 1, 2])), desk.do(("block", 0, "a", [0, 2])), desk.do(("cut", 0, 1))]
+        found.append(desk.do(("table", "b", [0, 0, 1, 1, 2, 2, 2, 2])))
+        self.assertEqual([found, desk.best_names()], [[0, 4, 0, 0], (5, ["a", "b"])])
+
+    def test_e313(self):
+        desk = Desk(3)
+        with self.assertRaises(InvalidCall) as caught:
+            desk.do(("forget", "a"))
+        self.assertEqual(caught.exception.call, ("forget", "a"))
+
+    def test_e503(self):
+        found = [header_of([(3, 2)]), read_header([1, 0, 0, 0, 1, 0, 1, 0, 1, 1], 1), pack([0, 0, 1], 1), shortest_pack([5], 12)]
+        expected = [[0, 0, 0, 1, 0, 1, 0, 1], ([(3, 2)], 9), [0, 0, 0, 1, 1, 0, 1, 0, 0, 1, 0], (11, 1)]
+        self.assertEqual(found, expected)
+
+    def test_e505(self):
+        with self.assertRaises(InvalidHeader) as caught:
+            read_header([0, 0, 0, 0, 0], 1)
+        self.assertEqual(caught.exception.at, 1)
+
+    def test_e506(self):
+        found = [adaptive_counts([0, 1], 2, 1, 2), write_adaptive([0, 1], 2, 1, 2), read_adaptive([0, 1, 1, 0, 0], 2, 2, 1, 2)]
+        found += [adaptive_chance([0, 1], 2), best_block([0, 1], 2, 2, 2)]
+        expected = [[[(0, 2), (1, 2)], [(0, 3), (1, 1)]], [0, 1, 1, 0, 0], ([0, 1], [0]), (1, 6), (4, 2)]
+        self.assertEqual(found, expected)
 
 
 if __name__ == "__main__":

@@ -14,9 +14,9 @@ LIBRARY = {
 # What the language bars in part, and the package leaves out altogether.
 LEFT_OUT = (
     ast.Try, ast.Lambda, ast.GeneratorExp, ast.Yield, ast.YieldFrom, ast.With, ast.Match, ast.Nonlocal, ast.NamedExpr,
-    ast.Await, ast.AnnAssign, ast.Assert, ast.Starred, ast.Delete,
+    ast.Await, ast.AnnAssign, ast.Assert, ast.Starred,
 )
-AROUND = ("list", "sorted", "tuple", "zip", "enumerate", "combinations")
+AROUND = ("list", "sorted", "tuple", "dict", "zip", "enumerate", "combinations")
 AT_ONCE = ("zip", "enumerate", "reversed", "range", "items", "keys", "values", "accumulate", "combinations")
 BARRED = ("open", "input", "print", "eval", "exec", "map", "type", "float", "round", "hash", "id", "vars", "super")
 
@@ -85,6 +85,8 @@ class Rules(unittest.TestCase):
             for node in nodes_of(name):
                 with self.subTest(name=name):
                     self.assertNotIsInstance(node, LEFT_OUT)
+                    if isinstance(node, ast.Delete):
+                        self.assertTrue(all(isinstance(target, ast.Subscript) for target in node.targets))
                     if isinstance(node, ast.Attribute):
                         self.assertNotIn(node.attr, ("sort", "format", "mro", "encode", "decode"))
 
