@@ -15,8 +15,9 @@ class Desk:
     """Tables by names, a row of blocks, and a last state.
 
     `named` has the tables, `parts` the tuples (name, text) of the blocks, `spent` their bits, and
-    `starts` the states in which they begin, with the last state behind them. `done` has the calls
-    that were done, and `backs` the steps that take them back.
+    `starts` the states in which they begin, with the last state behind them. `many` and `total` are
+    the numbers of all symbols and bits of the blocks. `done` has the calls that were done, and `backs`
+    the steps that take them back.
     """
 
     def __init__(self, bits):
@@ -26,6 +27,8 @@ class Desk:
         self.parts = []
         self.spent = []
         self.starts = [0]
+        self.many = 0
+        self.total = 0
         self.done = []
         self.backs = []
 
@@ -51,10 +54,10 @@ class Desk:
         step = step_of(self, call)
         if step is None:
             raise InvalidCall(call)
-        before = sum(self.spent)
+        before = self.total
         self.backs.append(taken(self, step))
         self.done.append(copied(call))
-        return sum(self.spent) - before
+        return self.total - before
 
     def calls(self):
         """The calls that were done and not taken back."""
@@ -77,7 +80,7 @@ class Desk:
 
     def length(self):
         """The number of bits of the stream of all blocks."""
-        return self.width + sum(self.spent)
+        return self.width + self.total
 
     def costs(self):
         """The bits of all blocks."""
@@ -183,7 +186,7 @@ def block_step(desk, at, name, text):
         return None
     if not is_text(text) or len(text) == 0 or not fits(desk.named[name], text):
         return None
-    if len(text) + many_symbols(desk) > LONGEST_TEXT:
+    if len(text) + desk.many > LONGEST_TEXT:
         return None
     return ("blocks", at, 0, [(name, list(text))])
 
@@ -240,29 +243,34 @@ def table_taken(desk, name, table):
 
 def blocks_taken(desk, at, many, parts):
     """Replaces blocks by some parts; returns the step that takes this back."""
-    back = ("blocks", at, len(parts), desk.parts[at:at + many])
+    old = desk.parts[at:at + many]
+    desk.many += many_symbols(parts) - many_symbols(old)
+    desk.total -= sum(desk.spent[at:at + many])
     desk.parts[at:at + many] = parts
     desk.spent[at:at + many] = [0] * len(parts)
     # What is ahead was written from the state that stood here, until `settle` finds another one.
     desk.starts[at:at + many] = [desk.starts[at]] * len(parts)
     low = at if len(parts) > 0 else at - 1
     settle(desk, low + max(0, len(parts) - 1), low)
-    return back
+    return ("blocks", at, len(parts), old)
 
 
 def settle(desk, top, low):
     """Finds bits and states of the blocks from `top` down to `low` anew, and on ahead as long as states change."""
     for at in range(top, -1, -1):
         name, text = desk.parts[at]
-        before = desk.starts[at]
-        desk.spent[at], desk.starts[at] = cost_ahead(desk.named[name], text, desk.starts[at + 1])
-        if at <= low and desk.starts[at] == before:
+        bits, start = cost_ahead(desk.named[name], text, desk.starts[at + 1])
+        is_same = desk.starts[at] == start
+        desk.total += bits - desk.spent[at]
+        desk.spent[at] = bits
+        desk.starts[at] = start
+        if is_same and at <= low:
             return
 
 
-def many_symbols(desk):
-    """How many symbols all blocks have."""
-    return sum([len(text) for _, text in desk.parts])
+def many_symbols(parts):
+    """How many symbols some blocks have."""
+    return sum([len(text) for _, text in parts])
 
 
 def is_name(value):
@@ -279,5 +287,5 @@ def is_known(desk, name):
 
 def check_parts(desk, times):
     """Raises LimitExceeded if the symbols of all blocks, times the states and `times`, are too many."""
-    if many_symbols(desk) * times << desk.width > MOST_LENGTHS:
+    if desk.many * times << desk.width > MOST_LENGTHS:
         raise LimitExceeded(MOST_LENGTHS)

@@ -12,6 +12,8 @@ FARTHEST = 10 ** 30
 MOST_STATES = 64
 MOST_FAR_STATES = 16
 MOST_NEAR = 200
+# The least sums of nearly all tables repeat within so many hops for each state, and mostly within far fewer.
+TURNS_TO_REPEAT = 2
 
 
 def length(table, text, last=0):
@@ -245,42 +247,62 @@ def least_of_blocks(items, most):
 
 
 def hops_of(table, sign):
-    """The tuples (cost, bits, base) of all states, the costs being the bits times a sign."""
-    return [(bits * sign, bits, base) for _, bits, base in table.reads]
+    """The tuples (cost, bits, block) of all states, the costs being the bits times a sign.
+
+    The next states of a state are the block with this number of 2 ** bits states that stand side by side.
+    """
+    return [(bits * sign, bits, base >> bits) for _, bits, base in table.reads]
 
 
-def further(hops, sums):
-    """The least sums of costs from all states, with one hop more."""
-    least = least_of_blocks(sums, max([bits for _, bits, _ in hops]))
-    return [cost + least[bits][base >> bits] for cost, bits, base in hops]
+def most_bits_of(hops):
+    """The most bits of a hop."""
+    return max([bits for _, bits, _ in hops])
+
+
+def further(hops, most, sums):
+    """The least sums of costs from all states, with one hop more, if a hop has at most `most` bits."""
+    least = least_of_blocks(sums, most)
+    return [cost + least[bits][block] for cost, bits, block in hops]
 
 
 def levels_of(hops, sums, many):
     """The lists of the least sums of costs for 0 to `many` hops, beginning with `sums` for none."""
+    most = most_bits_of(hops)
     levels = [sums]
     for _ in range(many):
-        levels.append(further(hops, levels[-1]))
+        levels.append(further(hops, most, levels[-1]))
     return levels
+
+
+def levels_till_repeated(hops, many):
+    """The tuple (levels, first): the levels for `many` hops, or for fewer if they begin to repeat.
+
+    Then the last level is that with the index `first` and one number more for all states, and from
+    there on all goes on as it went behind that; otherwise `first` is -1.
+    """
+    most = most_bits_of(hops)
+    sums = [0] * len(hops)
+    levels = [sums]
+    seen = {tuple(sums): 0}
+    for turn in range(1, many + 1):
+        sums = further(hops, most, sums)
+        levels.append(sums)
+        least = min(sums)
+        shape = tuple([item - least for item in sums])
+        if shape in seen:
+            return levels, seen[shape]
+        seen[shape] = turn
+    return levels, -1
 
 
 def least_sum(hops, many):
     """The least sum of the costs of `many` hops."""
-    # Less their least one, the sums come again sooner or later, and from then on all repeats.
-    sums = [0] * len(hops)
-    totals = [0]
-    seen = {tuple(sums): 0}
-    for turn in range(1, many + 1):
-        sums = further(hops, sums)
-        least = min(sums)
-        sums = [item - least for item in sums]
-        totals.append(totals[-1] + least)
-        shape = tuple(sums)
-        if shape in seen:
-            first = seen[shape]
-            rounds, rest = divmod(many - first, turn - first)
-            return totals[first + rest] + rounds * (totals[turn] - totals[first])
-        seen[shape] = turn
-    return totals[many]
+    levels, first = levels_till_repeated(hops, many)
+    last = len(levels) - 1
+    if first < 0:
+        return min(levels[last])
+    rounds, rest = divmod(many - first, last - first)
+    return min(levels[first + rest]) + rounds * (min(levels[last]) - min(levels[first]))
 
 
 def least_text(table, hops, many):
@@ -301,8 +323,8 @@ def best_behind(hops, readers, sums, rests):
     """The states behind some readers that keep the least sums: `sums` with this hop, `rests` behind it."""
     found = set()
     for reader in readers:
-        cost, bits, base = hops[reader]
-        for state in range(base, base + (1 << bits)):
+        cost, bits, block = hops[reader]
+        for state in range(block << bits, (block + 1) << bits):
             if cost + rests[state] == sums[reader]:
                 found.add(state)
     return sorted(found)
@@ -310,12 +332,15 @@ def best_behind(hops, readers, sums, rests):
 
 def least_mean(hops):
     """The least mean of the costs of all rings."""
-    # This is Karp's theorem: of the sums for as many hops as there are states, and for fewer ones.
     many = len(hops)
-    levels = levels_of(hops, [0] * many, many)
-    best = greatest_slope(levels, 0)
+    levels, first = levels_till_repeated(hops, TURNS_TO_REPEAT * many)
+    if first >= 0:
+        # From each state, so many hops more cost so much more, over and over: no ring costs less in the mean.
+        return lowest(levels[-1][0] - levels[first][0], len(levels) - 1 - first)
+    # Otherwise Karp's theorem tells it: by the sums for as many hops as there are states, and for fewer ones.
+    best = greatest_slope(levels[:many + 1], 0)
     for state in range(1, many):
-        slope = greatest_slope(levels, state)
+        slope = greatest_slope(levels[:many + 1], state)
         if is_less(slope, best):
             best = slope
     return lowest(best[0], best[1])

@@ -8,6 +8,7 @@ a tuple of words and numbers of which the first one is a key of KINDS.
 import copy
 import inspect
 
+from spreadstates import errors
 from spreadstates.tables import Table
 from tests.samples import bound, no_tables, raised, spread_error, stream_error, text_error, told
 from tests.samples import wrong_counts, wrong_integers, wrong_items, wrong_lists, wrong_numbers, wrong_streams, wrong_texts
@@ -217,3 +218,32 @@ def check_wrong(test, calls):
                     for wrong in WRONG_BEHIND:
                         more = {other: wrong for other in others}
                         test.assertEqual(told(action, **dict(values, **more, **{name: value})), expected)
+
+
+class Checks:
+    """The tests of a file: `calls`, `signatures`, and `failures`, tuples (action, values, what is told of it)."""
+
+    calls = ()
+    signatures = {}
+    failures = ()
+
+    def test_names_and_files(self):
+        check_signatures(self, self.calls, self.signatures)
+
+    def test_by_position_and_by_name(self):
+        check_names(self, self.calls)
+
+    def test_nothing_changes(self):
+        check_unchanged(self, self.calls, [(action, values) for action, values, _ in self.failures])
+
+    def test_results_are_new(self):
+        check_new(self, self.calls)
+
+    def test_wrong_ones_in_their_order(self):
+        check_wrong(self, self.calls)
+
+    def test_errors_behind_the_arguments(self):
+        for action, values, expected in self.failures:
+            with self.subTest(name=action.__name__):
+                self.assertEqual(told(action, *values), expected)
+                self.assertIn(errors.SpreadError, type(raised(action, *values)).__bases__)

@@ -2,10 +2,10 @@
 
 import unittest
 
-from spreadstates import damage, entropy, errors, searches, weaving
+from spreadstates import damage, entropy, searches, weaving
 from spreadstates.tables import Table
 from tests import argument_checks
-from tests.samples import SPREAD, bound, limit, raised, spread_error, stream_error, symbol_error, text_error, told
+from tests.samples import SPREAD, bound, limit, spread_error, stream_error, symbol_error, text_error
 
 SMALL = Table(SPREAD)
 HALF = Table([0, 0, 0, 0, 1, 1, 1, 1])
@@ -112,27 +112,10 @@ FAILURES = (
 )
 
 
-class Arguments(unittest.TestCase):
-    def test_names_and_files(self):
-        argument_checks.check_signatures(self, CALLS, SIGNATURES)
-
-    def test_by_position_and_by_name(self):
-        argument_checks.check_names(self, CALLS)
-
-    def test_nothing_changes(self):
-        argument_checks.check_unchanged(self, CALLS, [(action, arguments) for action, arguments, _ in FAILURES])
-
-    def test_results_are_new(self):
-        argument_checks.check_new(self, CALLS)
-
-    def test_wrong_ones_in_their_order(self):
-        argument_checks.check_wrong(self, CALLS)
-
-    def test_errors_behind_the_arguments(self):
-        for action, arguments, expected in FAILURES:
-            with self.subTest(name=action.__name__):
-                self.assertEqual(told(action, *arguments), expected)
-                self.assertIn(errors.SpreadError, type(raised(action, *arguments)).__bases__)
+class Arguments(argument_checks.Checks, unittest.TestCase):
+    calls = CALLS
+    signatures = SIGNATURES
+    failures = FAILURES
 
     def test_tables_of_results_are_new(self):
         first, tables = weaving.tables_after([0, 1, 0, 2], 2)

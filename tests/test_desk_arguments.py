@@ -2,10 +2,10 @@
 
 import unittest
 
-from spreadstates import adaptive, alike, errors, headers
+from spreadstates import adaptive, alike, headers
 from spreadstates.tables import Table
 from tests import argument_checks
-from tests.samples import SPREAD, bound, header_error, limit, raised, stream_error, symbol_error, text_error, told
+from tests.samples import SPREAD, bound, header_error, limit, stream_error, symbol_error, text_error
 from tests.samples import wrong_integers, wrong_streams
 
 SMALL = Table(SPREAD)
@@ -107,30 +107,13 @@ def wrong_names(name):
     return found + [(key, value, bound(name)) for key, value in more.items()]
 
 
-class Arguments(unittest.TestCase):
+class Arguments(argument_checks.Checks, unittest.TestCase):
+    calls = CALLS
+    signatures = SIGNATURES
+    failures = FAILURES
+
     def setUp(self):
         argument_checks.KINDS.update({"header": wrong_headers, "escape": wrong_escapes, "names": wrong_names})
-
-    def test_names_and_files(self):
-        argument_checks.check_signatures(self, CALLS, SIGNATURES)
-
-    def test_by_position_and_by_name(self):
-        argument_checks.check_names(self, CALLS)
-
-    def test_nothing_changes(self):
-        argument_checks.check_unchanged(self, CALLS, [(action, arguments) for action, arguments, _ in FAILURES])
-
-    def test_results_are_new(self):
-        argument_checks.check_new(self, CALLS)
-
-    def test_wrong_ones_in_their_order(self):
-        argument_checks.check_wrong(self, CALLS)
-
-    def test_errors_behind_the_arguments(self):
-        for action, arguments, expected in FAILURES:
-            with self.subTest(name=action.__name__):
-                self.assertEqual(told(action, *arguments), expected)
-                self.assertIn(errors.SpreadError, type(raised(action, *arguments)).__bases__)
 
 
 if __name__ == "__main__":

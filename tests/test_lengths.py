@@ -5,7 +5,7 @@ import unittest
 from fractions import Fraction
 
 from spreadstates.coding import write
-from spreadstates.lengths import best_last, extremes, length, length_counts, lengths, longest_text
+from spreadstates.lengths import best_last, extremes, least_mean, length, length_counts, lengths, longest_text
 from spreadstates.lengths import means, place_of, shortest_text, text_at
 from spreadstates.tables import Table
 from tests.definitions import great_spreads, rows_of, small_spreads, streams_of, texts_of, width_of
@@ -490,6 +490,38 @@ class Means(unittest.TestCase):
             self.assertTrue(has_ring_below(spread, 1, least + Fraction(1, 5000)))
             self.assertFalse(has_ring_below(spread, -1, -most))
             self.assertTrue(has_ring_below(spread, -1, -most + Fraction(1, 5000)))
+
+    def test_sums_that_do_not_repeat(self):
+        # Rings apart from each other, with unlike means or of unlike lengths, as no table has them.
+        for rings in (
+            ((1, 2), (5, 1, 1)), ((3, 0), (1, 1, 1)), ((2, 2, 2), (1,)), ((0, 1), (1, 0, 1, 0), (0, 0, 1, 1, 0, 1)),
+            ((1, 0, 0), (1, 0, 0, 0), (2, 0, 0, 0, 0)), ((4, 4), (3, 4, 5, 4), (9,)), ((-1, -2), (-5, -1, -1)), ((7,), (7, 7)),
+            ((1, 0) * 2, (1, 1, 0, 0, 1, 0), (0, 0, 0, 1, 1) * 2, (1, 0, 1, 0, 1, 0, 0) * 2),
+        ):
+            hops = []
+            for ring in rings:
+                first = len(hops)
+                hops += [(cost, 0, first + (at + 1) % len(ring)) for at, cost in enumerate(ring)]
+            expected = min(Fraction(sum(ring), len(ring)) for ring in rings)
+            self.assertEqual(least_mean(hops), (expected.numerator, expected.denominator))
+
+    def test_drawn_tables_by_all_walks(self):
+        # Karp's theorem for all states, apart from the program.
+        for seed in range(60):
+            spread = drawn_spread(seed, 1 + seed % 6, (2, 2, 3, 5, 9)[seed % 5] if seed % 6 else 2)
+            rows = rows_of(spread)
+            size = len(spread)
+            found = []
+            for sign in (1, -1):
+                levels = [[0] * size]
+                for _ in range(size):
+                    ahead = levels[-1]
+                    levels.append([sign * bits + min(ahead[base:base + 2 ** bits]) for _, bits, base in rows])
+                slopes = [max(Fraction(levels[size][state] - levels[many][state], size - many) for many in range(size))
+                          for state in range(size)]
+                found.append(sign * min(slopes))
+            expected = tuple((mean.numerator, mean.denominator) for mean in found)
+            self.assertEqual(means(Table(spread)), expected)
 
     def test_errors(self):
         for name, value in no_tables().items():
