@@ -237,40 +237,39 @@ def sums_of_blocks(items, most):
     return sums
 
 
-def least_of_blocks(items, most):
-    """The least ones of each 2 ** bits items that stand side by side, for 0 to `most` bits."""
-    least = [items]
-    for _ in range(most):
-        halves = least[-1]
-        least.append([one if one < other else other for one, other in zip(halves[::2], halves[1::2])])
-    return least
-
-
 def hops_of(table, sign):
-    """The tuples (cost, bits, block) of all states, the costs being the bits times a sign.
+    """The tuples (cost, base, end) of all states: the bits times a sign, and the next states, ahead of `end`."""
+    return [(bits * sign, base, base + (1 << bits)) for _, bits, base in table.reads]
 
-    The next states of a state are the block with this number of 2 ** bits states that stand side by side.
+
+def steps_of(hops):
+    """The tuple (steps, blocks): the blocks (base, end) of several next states, each once, and a step for each hop.
+
+    A step (cost, at) tells where the least sum of the next states stands, if the least sums of the
+    blocks stand behind the sums of all states.
     """
-    return [(bits * sign, bits, base >> bits) for _, bits, base in table.reads]
+    steps = []
+    places = {}
+    for cost, base, end in hops:
+        if end > base + 1:
+            steps.append((cost, len(hops) + places.setdefault((base, end), len(places))))
+        else:
+            steps.append((cost, base))
+    return steps, list(places)
 
 
-def most_bits_of(hops):
-    """The most bits of a hop."""
-    return max([bits for _, bits, _ in hops])
-
-
-def further(hops, most, sums):
-    """The least sums of costs from all states, with one hop more, if a hop has at most `most` bits."""
-    least = least_of_blocks(sums, most)
-    return [cost + least[bits][block] for cost, bits, block in hops]
+def further(steps, blocks, sums):
+    """The least sums of costs from all states, with one hop more."""
+    least = sums + [min(sums[base:end]) for base, end in blocks]
+    return [cost + least[at] for cost, at in steps]
 
 
 def levels_of(hops, sums, many):
     """The lists of the least sums of costs for 0 to `many` hops, beginning with `sums` for none."""
-    most = most_bits_of(hops)
+    steps, blocks = steps_of(hops)
     levels = [sums]
     for _ in range(many):
-        levels.append(further(hops, most, levels[-1]))
+        levels.append(further(steps, blocks, levels[-1]))
     return levels
 
 
@@ -280,15 +279,15 @@ def levels_till_repeated(hops, many):
     Then the last level is that with the index `first` and one number more for all states, and from
     there on all goes on as it went behind that; otherwise `first` is -1.
     """
-    most = most_bits_of(hops)
+    steps, blocks = steps_of(hops)
     sums = [0] * len(hops)
     levels = [sums]
     seen = {tuple(sums): 0}
     for turn in range(1, many + 1):
-        sums = further(hops, most, sums)
+        sums = further(steps, blocks, sums)
         levels.append(sums)
-        least = min(sums)
-        shape = tuple([item - least for item in sums])
+        ahead = sums[0]
+        shape = tuple([item - ahead for item in sums])
         if shape in seen:
             return levels, seen[shape]
         seen[shape] = turn
@@ -323,8 +322,8 @@ def best_behind(hops, readers, sums, rests):
     """The states behind some readers that keep the least sums: `sums` with this hop, `rests` behind it."""
     found = set()
     for reader in readers:
-        cost, bits, block = hops[reader]
-        for state in range(block << bits, (block + 1) << bits):
+        cost, base, end = hops[reader]
+        for state in range(base, end):
             if cost + rests[state] == sums[reader]:
                 found.add(state)
     return sorted(found)

@@ -501,7 +501,9 @@ class Means(unittest.TestCase):
             hops = []
             for ring in rings:
                 first = len(hops)
-                hops += [(cost, 0, first + (at + 1) % len(ring)) for at, cost in enumerate(ring)]
+                for at, cost in enumerate(ring):
+                    following = first + (at + 1) % len(ring)
+                    hops.append((cost, following, following + 1))
             expected = min(Fraction(sum(ring), len(ring)) for ring in rings)
             self.assertEqual(least_mean(hops), (expected.numerator, expected.denominator))
 
