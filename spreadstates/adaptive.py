@@ -3,12 +3,13 @@
 from math import factorial
 
 from spreadstates.blocks import carried
-from spreadstates.checks import LONGEST_TEXT, check_bits, check_many, check_stream, check_text
+from spreadstates.checks import LONGEST_TEXT, check_bits, check_flag, check_many, check_stream, check_symbols
+from spreadstates.checks import check_text, check_within
 from spreadstates.coding import check_used, laid, number_at, passed_from, write
 from spreadstates.counts import by_rests
-from spreadstates.errors import InvalidBound, InvalidSymbol, LimitExceeded
+from spreadstates.errors import LimitExceeded
 from spreadstates.makers import table_by_steps
-from spreadstates.wholes import is_within, lowest
+from spreadstates.wholes import lowest
 
 LEAST_SIZE = 2
 MOST_SIZE = 256
@@ -35,9 +36,8 @@ def write_adaptive(text, size, block, bits, *, window=None, is_new=False, last=0
     """The stream of a text whose blocks have tables that follow the text."""
     check_sized(text, size)
     check_blocks(block, bits, window)
-    check_new(is_new)
-    if not is_within(last, 0, (1 << bits) - 1):
-        raise InvalidBound("last")
+    check_flag(is_new, "is_new")
+    check_within(last, 0, (1 << bits) - 1, "last")
     check_adaptive_work(len(text), size, block, bits)
     tables = []
     texts = []
@@ -59,9 +59,9 @@ def read_adaptive(stream, many, size, block, bits, *, window=None, is_new=False)
     """The text and the last states of a stream whose blocks have tables that follow the text."""
     check_stream(stream)
     check_many(many)
-    check_text_size(size)
+    check_within(size, LEAST_SIZE, MOST_SIZE, "size")
     check_blocks(block, bits, window)
-    check_new(is_new)
+    check_flag(is_new, "is_new")
     check_adaptive_work(many, size, block, bits)
     text = []
     lasts = []
@@ -101,8 +101,7 @@ def best_block(text, size, bits, most):
     """The least length over blocks of 1 to `most` symbols, and the least such block."""
     check_sized(text, size)
     check_bits(bits)
-    if not is_within(most, 1, MOST_BLOCK_TRIED):
-        raise InvalidBound("most")
+    check_within(most, 1, MOST_BLOCK_TRIED, "most")
     check_tried(text)
     if bits > MOST_BITS_TRIED:
         raise LimitExceeded(MOST_BITS_TRIED)
@@ -124,31 +123,16 @@ def tally_behind(tally, text, at, behind, window):
 def check_sized(text, size):
     """Raises the errors of a text of the symbols 0 to `size` - 1."""
     check_text(text)
-    check_text_size(size)
-    strange = [symbol for symbol in text if symbol >= size]
-    if strange:
-        raise InvalidSymbol(strange[0])
-
-
-def check_text_size(size):
-    """Raises InvalidBound for what is no number of symbols to choose from."""
-    if not is_within(size, LEAST_SIZE, MOST_SIZE):
-        raise InvalidBound("size")
+    check_within(size, LEAST_SIZE, MOST_SIZE, "size")
+    check_symbols(text, {symbol: True for symbol in range(size)})
 
 
 def check_blocks(block, bits, window):
     """Raises InvalidBound for what are no blocks, bits or window."""
-    if not is_within(block, 1, LONGEST_TEXT):
-        raise InvalidBound("block")
+    check_within(block, 1, LONGEST_TEXT, "block")
     check_bits(bits)
-    if window is not None and not is_within(window, 0, LONGEST_TEXT):
-        raise InvalidBound("window")
-
-
-def check_new(is_new):
-    """Raises InvalidBound for what is neither True nor False."""
-    if is_new is not True and is_new is not False:
-        raise InvalidBound("is_new")
+    if window is not None:
+        check_within(window, 0, LONGEST_TEXT, "window")
 
 
 def check_room(size, bits):

@@ -14,11 +14,6 @@ def is_symbol(value):
     return is_within(value, 0, MOST_SYMBOLS - 1)
 
 
-def is_bits(value):
-    """Whether a value is an R, the number of bits of a state."""
-    return is_within(value, 1, MOST_BITS)
-
-
 def is_size(total):
     """Whether an integer is an L, a number of states."""
     return 2 <= total <= 1 << MOST_BITS and total & (total - 1) == 0
@@ -134,10 +129,21 @@ def check_stream(stream):
         raise InvalidStream(at)
 
 
+def check_within(value, least, most, name):
+    """Raises InvalidBound for what is no integer from `least` to `most`."""
+    if not is_within(value, least, most):
+        raise InvalidBound(name)
+
+
+def check_flag(value, name):
+    """Raises InvalidBound for what is neither True nor False."""
+    if value is not True and value is not False:
+        raise InvalidBound(name)
+
+
 def check_many(many):
     """Raises InvalidBound for what is no number of symbols of a text."""
-    if not is_within(many, 0, LONGEST_TEXT):
-        raise InvalidBound("many")
+    check_within(many, 0, LONGEST_TEXT, "many")
 
 
 def check_numbers(numbers):
@@ -154,5 +160,4 @@ def check_counts(counts):
 
 def check_bits(bits):
     """Raises InvalidBound for what is no number of bits of a state."""
-    if not is_bits(bits):
-        raise InvalidBound("bits")
+    check_within(bits, 1, MOST_BITS, "bits")

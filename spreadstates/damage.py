@@ -1,6 +1,6 @@
 """Damage: what changed bits of streams do to their readers."""
 
-from spreadstates.checks import check_many, check_stream
+from spreadstates.checks import check_flag, check_many, check_stream, check_within
 from spreadstates.coding import check_end, check_reading, places_from, places_in
 from spreadstates.errors import InvalidBound, InvalidStream, LimitExceeded
 from spreadstates.streams import idle_runs
@@ -70,8 +70,7 @@ def meeting(table, stream, one, other):
 def meeting_bits(table, most):
     """The shortest and first list of at most `most` bits behind which all readers stand in one state, or None."""
     check_table(table)
-    if not is_within(most, 0, LONGEST_BITS):
-        raise InvalidBound("most")
+    check_within(most, 0, LONGEST_BITS, "most")
     check_size(table, MOST_READERS)
     if len(table.ways) == 1:
         return None
@@ -110,8 +109,7 @@ def turn_counts(table, many):
 def first_unseen(table, many, is_end_known):
     """The first right stream, with the first bit of it that can be turned unseen, or None."""
     check_turning(table, many)
-    if is_end_known is not True and is_end_known is not False:
-        raise InvalidBound("is_end_known")
+    check_flag(is_end_known, "is_end_known")
     check_streams(table, many)
     for stream, places in right_streams(table, many):
         end = places[many][0] if is_end_known else None
@@ -268,8 +266,7 @@ def check_change(stream, change):
 def check_turning(table, many):
     """Raises the errors of a table and a number of symbols of which all streams are looked at."""
     check_table(table)
-    if not is_within(many, 0, MOST_TURNED):
-        raise InvalidBound("many")
+    check_within(many, 0, MOST_TURNED, "many")
 
 
 def check_streams(table, many):

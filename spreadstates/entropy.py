@@ -1,6 +1,6 @@
 """How far tables are from the ideal length."""
 
-from spreadstates.checks import check_text, is_ascending, sum_if_numbers, sum_of, symbols_of
+from spreadstates.checks import check_text, check_within, is_ascending, sum_if_numbers, sum_of, symbols_of
 from spreadstates.coding import check_writing, written
 from spreadstates.counts import by_rests, numbers_of
 from spreadstates.drawing import closed_in, mean_from, reaches_of
@@ -8,7 +8,7 @@ from spreadstates.errors import InvalidBound, LimitExceeded
 from spreadstates.logs import log_down, log_up, whole_log
 from spreadstates.makers import least_cost, spread_by
 from spreadstates.tables import check_size, check_state, check_table
-from spreadstates.wholes import is_within, power
+from spreadstates.wholes import power
 
 LONGEST_TOLD = 2000
 MOST_IDEAL_BITS = 100000
@@ -143,12 +143,6 @@ def check_weights(table, weights):
     """Raises InvalidBound for what are no weights of symbols of a table."""
     if sum_if_numbers(weights) == 0 or not is_ascending(symbols_of(weights), table.ways):
         raise InvalidBound("weights")
-
-
-def check_within(value, least, most, name):
-    """Raises InvalidBound for what is no integer from `least` to `most`."""
-    if not is_within(value, least, most):
-        raise InvalidBound(name)
 
 
 def check_told(text):

@@ -1,14 +1,15 @@
 """Headers that tell counts in few bits, packed texts, and escapes for other symbols."""
 
 from spreadstates.checks import MOST_BITS, MOST_SYMBOLS
-from spreadstates.checks import check_bits, check_counts, check_many, check_stream, check_text, first_wrong, sum_of
+from spreadstates.checks import check_bits, check_counts, check_many, check_stream, check_text, check_within
+from spreadstates.checks import first_wrong, is_symbol, sum_of
 from spreadstates.coding import check_used, laid, number_at, passed_from, write
 from spreadstates.counts import by_rests, numbers_of
 from spreadstates.errors import InvalidBound, InvalidHeader, InvalidStream, InvalidSymbol, LimitExceeded
 from spreadstates.lengths import length
 from spreadstates.spreads import spread_by_steps
 from spreadstates.tables import Table, check_state, check_table, way_back
-from spreadstates.wholes import bits_of, is_within, number_of
+from spreadstates.wholes import bits_of, number_of
 
 SIZE_BITS = 4
 GROUP_BITS = 2
@@ -36,8 +37,7 @@ def header_of(counts):
 def read_header(stream, at=0):
     """The counts that a header tells which begins at a bit of a stream, and the number of the bit behind it."""
     check_header_bits(stream)
-    if not is_within(at, 0, len(stream)):
-        raise InvalidBound("at")
+    check_within(at, 0, len(stream), "at")
     return header_at(stream, at)
 
 
@@ -45,8 +45,7 @@ def pack(text, bits, last=0):
     """The header of the counts by rests for a text, and behind it the stream of the text."""
     numbers = numbers_of(text)
     check_bits(bits)
-    if not is_within(last, 0, (1 << bits) - 1):
-        raise InvalidBound("last")
+    check_within(last, 0, (1 << bits) - 1, "last")
     counts = by_rests(numbers, bits)
     return header_of(counts) + write(Table(spread_by_steps(counts)), text, last)
 
@@ -66,8 +65,7 @@ def unpack(stream, many):
 def shortest_pack(text, most):
     """The least length of a packed text for 1 to `most` bits, and the least number of bits that has it."""
     numbers = numbers_of(text)
-    if not is_within(most, 1, MOST_BITS):
-        raise InvalidBound("most")
+    check_within(most, 1, MOST_BITS, "most")
     if len(numbers) > 1 << most:
         raise LimitExceeded(1 << most)
     found = []
@@ -216,7 +214,6 @@ def check_header_bits(stream):
 
 def check_escape(table, escape, width):
     """Raises InvalidBound for what is no symbol of a table, and what is no width."""
-    if not is_within(escape, 0, MOST_SYMBOLS - 1) or escape not in table.ways:
+    if not is_symbol(escape) or escape not in table.ways:
         raise InvalidBound("escape")
-    if not is_within(width, 1, WIDEST):
-        raise InvalidBound("width")
+    check_within(width, 1, WIDEST, "width")

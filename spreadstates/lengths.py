@@ -1,10 +1,10 @@
 """How long streams are: of texts, of all texts, and in the long run."""
 
-from spreadstates.checks import check_many
+from spreadstates.checks import check_many, check_within
 from spreadstates.coding import check_writing, written
 from spreadstates.errors import InvalidBound, LimitExceeded
 from spreadstates.tables import check_size, check_state, check_table, check_work, many_wide
-from spreadstates.wholes import is_integer, is_within, lowest, power
+from spreadstates.wholes import is_integer, lowest, power
 
 MOST_LENGTHS = 200000
 MOST_COUNTED = 2000
@@ -364,8 +364,7 @@ def is_less(one, other):
 def check_far(table, many):
     """Raises the errors of a table and a number of symbols that may be great."""
     check_table(table)
-    if not is_within(many, 0, FARTHEST):
-        raise InvalidBound("many")
+    check_within(many, 0, FARTHEST, "many")
     check_size(table, MOST_STATES)
 
 

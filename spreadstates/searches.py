@@ -4,15 +4,14 @@ from itertools import combinations
 from math import comb
 
 from spreadstates.checks import check_bits, check_counts, check_spread, check_symbols, check_text
-from spreadstates.checks import sum_of, symbols_of
+from spreadstates.checks import check_within, sum_of, symbols_of
 from spreadstates.coding import check_writing
 from spreadstates.counts import by_rests, numbers_of
 from spreadstates.errors import InvalidBound, LimitExceeded
 from spreadstates.lengths import MOST_LENGTHS
 from spreadstates.makers import MAKERS, is_maker, least_cost, spread_by
-from spreadstates.spreads import spread_by_runs
 from spreadstates.tables import Table, check_work
-from spreadstates.wholes import is_integer, is_within
+from spreadstates.wholes import is_integer
 
 MOST_PLACES = 256
 MOST_SEARCHED_STATES = 16
@@ -136,8 +135,7 @@ def shortest_counts(text, bits, maker):
 def shortest_table(text, most, maker):
     """The least length of a stream of a text over all R up to `most` with a maker, and the least such R."""
     numbers = numbers_of(text)
-    if not is_within(most, 1, MOST_TRIED_BITS):
-        raise InvalidBound("most")
+    check_within(most, 1, MOST_TRIED_BITS, "most")
     check_maker(maker)
     if len(text) > LONGEST_TRIED:
         raise LimitExceeded(LONGEST_TRIED)

@@ -1,8 +1,7 @@
 """Spreads: in which states the symbols stand."""
 
-from spreadstates.checks import check_bits, check_counts, is_ascending, sum_of
+from spreadstates.checks import check_bits, check_counts, check_within, is_ascending, sum_of
 from spreadstates.errors import InvalidBound
-from spreadstates.wholes import is_within
 
 
 def spread_by_steps(counts, rare=()):
@@ -50,8 +49,7 @@ def order_of_steps(bits, many):
     """The places in the order of the spread by steps, without those of `many` rare symbols."""
     check_bits(bits)
     size = 1 << bits
-    if not is_within(many, 0, size):
-        raise InvalidBound("many")
+    check_within(many, 0, size, "many")
     return places_by_steps(size, many)
 
 

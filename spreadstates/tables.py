@@ -1,8 +1,8 @@
 """Tables of states: what is read in each state, and from where a state is reached."""
 
-from spreadstates.checks import check_spread, is_size, is_symbol
+from spreadstates.checks import check_spread, check_within, is_size, is_symbol
 from spreadstates.errors import InvalidBound, InvalidSpread, InvalidSymbol, LimitExceeded
-from spreadstates.wholes import is_integer, is_within
+from spreadstates.wholes import is_integer
 
 
 class Table:
@@ -147,8 +147,7 @@ def check_table(table):
 
 def check_state(table, state, name):
     """Raises InvalidBound for what is no state of a table."""
-    if not is_within(state, 0, len(table.symbols) - 1):
-        raise InvalidBound(name)
+    check_within(state, 0, len(table.symbols) - 1, name)
 
 
 def check_size(table, most):

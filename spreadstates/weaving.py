@@ -1,6 +1,7 @@
 """Several states in turns, and several tables: in turns, or by the symbol ahead."""
 
-from spreadstates.checks import check_bits, check_many, check_stream, check_text, is_stream, is_symbol
+from spreadstates.checks import check_bits, check_many, check_stream, check_text, check_within
+from spreadstates.checks import is_stream, is_symbol
 from spreadstates.coding import laid, number_at, places_in
 from spreadstates.counts import numbers_of
 from spreadstates.errors import InvalidBound, InvalidStream, InvalidSymbol
@@ -14,7 +15,7 @@ MOST_WOVEN = 8
 def write_woven(tables, states, text, lasts=None):
     """The stream of a text with several states in turns, and tables in turns."""
     check_tables(tables)
-    check_states(states)
+    check_within(states, 1, MOST_WOVEN, "states")
     check_text(text)
     for at, symbol in enumerate(text):
         check_has(tables[at % len(tables)], symbol)
@@ -154,15 +155,9 @@ def check_tables(tables):
         raise InvalidBound("tables")
 
 
-def check_states(states):
-    """Raises InvalidBound for what is no number of states of woven streams."""
-    if not is_within(states, 1, MOST_WOVEN):
-        raise InvalidBound("states")
-
-
 def check_woven(states, stream, many):
     """Raises the errors of reading a woven stream, as far as nothing is read."""
-    check_states(states)
+    check_within(states, 1, MOST_WOVEN, "states")
     check_stream(stream)
     check_many(many)
 

@@ -6,7 +6,7 @@ import unittest
 
 from spreadstates import counts, errors, spreads, wholes
 from tests.samples import SMALL, bound, limit, raised, text_error, told
-from tests.samples import wrong_counts, wrong_integers, wrong_items, wrong_lists, wrong_numbers
+from tests.samples import wrong_counts, wrong_integers, wrong_lists, wrong_numbers
 
 # For each function: the names of its arguments, with a valid value, as the interface has them.
 CALLS = (
