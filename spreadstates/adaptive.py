@@ -1,14 +1,15 @@
 """Tables that follow the text: each block has a table for what stands ahead of it."""
 
+from itertools import accumulate
 from math import factorial
 
-from spreadstates.blocks import carried
 from spreadstates.checks import LONGEST_TEXT, check_bits, check_flag, check_many, check_stream, check_symbols
 from spreadstates.checks import check_text, check_within
-from spreadstates.coding import check_used, laid, number_at, passed_from, write
-from spreadstates.counts import by_rests
+from spreadstates.coding import bits_along, check_used, number_at, spent_on, written
+from spreadstates.counts import shares_of
 from spreadstates.errors import LimitExceeded
-from spreadstates.makers import table_by_steps
+from spreadstates.spreads import laid_by_steps, places_by_steps, runs_of
+from spreadstates.tables import lay_rows, way_of
 from spreadstates.wholes import lowest
 
 LEAST_SIZE = 2
@@ -27,7 +28,7 @@ def adaptive_counts(text, size, block, bits, window=None):
     found = []
     tally = [1] * size
     for at in range(0, len(text), block):
-        found.append(by_rests(list(enumerate(tally)), bits))
+        found.append(list(enumerate(shares_of(tally, bits))))
         tally = tally_behind(tally, text, at, at + block, window)
     return found
 
@@ -39,20 +40,26 @@ def write_adaptive(text, size, block, bits, *, window=None, is_new=False, last=0
     check_flag(is_new, "is_new")
     check_within(last, 0, (1 << bits) - 1, "last")
     check_adaptive_work(len(text), size, block, bits)
+    steps = places_by_steps(1 << bits, 0)
     tables = []
-    texts = []
     tally = [1] * size
     for at in range(0, len(text), block):
-        tables.append(table_by_steps(list(enumerate(tally)), bits))
-        texts.append(text[at:at + block])
+        tables.append(PartTable(shares_of(tally, bits), steps))
         tally = tally_behind(tally, text, at, at + block, window)
+    # All is told from the last symbol to the first one here, as it is written.
+    numbers = []
+    widths = []
+    state = last
+    for at in range(len(tables) - 1, -1, -1):
+        part = text[at * block:(at + 1) * block]
+        states, spent = written(tables[at].ways_for(part), 1 << bits, part, last if is_new else state)
+        state = states[-1]
+        numbers += states if is_new else states[:-1]
+        widths += spent + [bits] if is_new else spent
     if not is_new:
-        passed, state = carried(tables, texts, last)
-        return laid(passed + [(state, bits)])
-    stream = []
-    for table, part in zip(tables, texts):
-        stream.extend(write(table, part, last))
-    return stream
+        numbers.append(state)
+        widths.append(bits)
+    return bits_along(numbers[::-1], widths[::-1])
 
 
 def read_adaptive(stream, many, size, block, bits, *, window=None, is_new=False):
@@ -63,6 +70,8 @@ def read_adaptive(stream, many, size, block, bits, *, window=None, is_new=False)
     check_blocks(block, bits, window)
     check_flag(is_new, "is_new")
     check_adaptive_work(many, size, block, bits)
+    steps = places_by_steps(1 << bits, 0)
+    turns = laid_by_steps(list(range(1 << bits)))
     text = []
     lasts = []
     tally = [1] * size
@@ -75,9 +84,9 @@ def read_adaptive(stream, many, size, block, bits, *, window=None, is_new=False)
         if is_new:
             state = number_at(stream, used, bits)
             used += bits
-        table = table_by_steps(list(enumerate(tally)), bits)
-        passed, state, used = passed_from(table, state, stream, used, min(block, many - at))
-        text.extend([symbol for _, symbol, _, _ in passed])
+        table = PartTable(shares_of(tally, bits), steps)
+        part, state, used = table.text_from(turns, state, stream, used, min(block, many - at))
+        text += part
         lasts.append(state)
         tally = tally_behind(tally, text, at, at + block, window)
     check_used(stream, used)
@@ -106,7 +115,67 @@ def best_block(text, size, bits, most):
     if bits > MOST_BITS_TRIED:
         raise LimitExceeded(MOST_BITS_TRIED)
     check_room(size, bits)
-    return min([(len(write_adaptive(text, size, block, bits)), block) for block in range(1, most + 1)])
+    steps = places_by_steps(1 << bits, 0)
+    tables = []
+    tally = [1] * size
+    for symbol in text:
+        tables.append(PartTable(shares_of(tally, bits), steps))
+        tally[symbol] += 1
+    return min([(bits + blocks_cost(tables, text, block, 1 << bits), block) for block in range(1, most + 1)])
+
+
+class PartTable:
+    """The table of the spread by steps for some counts, of which only the symbols that are met are worked out.
+
+    `steps` has the states as the steps reach them.
+    """
+
+    def __init__(self, shares, steps):
+        self.shares = shares
+        self.ends = list(accumulate(shares))
+        self.steps = steps
+        self.ways = {}
+
+    def ways_for(self, text):
+        """The ways of the symbols of a text, perhaps with others."""
+        for symbol in text:
+            if symbol not in self.ways:
+                end = self.ends[symbol]
+                places = sorted(self.steps[end - self.shares[symbol]:end])
+                self.ways[symbol] = way_of(places, len(self.steps))
+        return self.ways
+
+    def text_from(self, turns, first, stream, begin, many):
+        """The text of `many` symbols from a state and a bit of a stream on, the state and the bit behind them.
+
+        `turns` tells for each state how many others the steps reach before.
+        """
+        runs = runs_of(list(enumerate(self.shares)))
+        rows = {}
+        text = []
+        state = first
+        at = begin
+        for _ in range(many):
+            if state not in rows:
+                met = runs[turns[state]]
+                ways = self.ways_for([met])
+                lay_rows(rows, met, ways[met], len(turns))
+            symbol, bits, base = rows[state]
+            state = base + number_at(stream, at, bits)
+            at += bits
+            text.append(symbol)
+        return text, state, at
+
+
+def blocks_cost(tables, text, block, size):
+    """The bits of a text in blocks; there is a table for each symbol, for what stands ahead of it."""
+    total = 0
+    state = 0
+    for at in list(range(0, len(text), block))[::-1]:
+        part = text[at:at + block]
+        bits, state = spent_on(tables[at].ways_for(part), size, part, state)
+        total += bits
+    return total
 
 
 def tally_behind(tally, text, at, behind, window):

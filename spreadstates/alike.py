@@ -2,17 +2,21 @@
 
 from spreadstates.checks import MOST_SYMBOLS, first_wrong
 from spreadstates.errors import InvalidBound
+from spreadstates.leads import leads_of, parted
 from spreadstates.lengths import MOST_STATES
-from spreadstates.tables import Table, check_size, check_state, check_table, ways_back
+from spreadstates.tables import Table, check_size, check_state, check_table, ways_of
 
 
 def alike_classes(table):
     """The classes of the states that are alike, as ascending lists, ascending."""
     check_table(table)
     check_size(table, MOST_STATES)
+    numbers, shifts = class_numbers([table])
+    many = 1 << shifts[0]
     classes = {}
-    for state, number in enumerate(class_numbers([table])):
-        classes.setdefault(number, []).append(state)
+    for at, number in enumerate(numbers):
+        states = classes.setdefault(number, [])
+        states += list(range(at * many, (at + 1) * many))
     return list(classes.values())
 
 
@@ -23,7 +27,7 @@ def first_apart(table, last, other, other_last):
     check_other(table, other)
     check_state(other, other_last, "other_last")
     check_sizes(table, other)
-    return first_told(table, costs_back(table), last, costs_back(other), other_last)
+    return first_told([table, other], last, other_last, False)
 
 
 def partner(table, last, other):
@@ -32,9 +36,10 @@ def partner(table, last, other):
     check_state(table, last, "last")
     check_other(table, other)
     check_sizes(table, other)
-    numbers = class_numbers([table, other])
-    others = numbers[table.size():]
-    return others.index(numbers[last]) if numbers[last] in others else None
+    numbers, shifts = class_numbers([table, other])
+    others = numbers[table.size() >> shifts[0]:]
+    own = numbers[last >> shifts[0]]
+    return others.index(own) << shifts[1] if own in others else None
 
 
 def are_alike(table, other):
@@ -42,16 +47,17 @@ def are_alike(table, other):
     check_table(table)
     check_other(table, other)
     check_sizes(table, other)
-    numbers = class_numbers([table, other])
-    return set(numbers[:table.size()]) == set(numbers[table.size():])
+    numbers, shifts = class_numbers([table, other])
+    many = table.size() >> shifts[0]
+    return set(numbers[:many]) == set(numbers[many:])
 
 
 def renamed(table, names):
     """The table in which the symbols, in ascending order, are replaced by names."""
     check_table(table)
-    if not are_names(names, len(table.ways)):
+    if not are_names(names, len(ways_of(table))):
         raise InvalidBound("names")
-    named = dict(zip(table.ways, names))
+    named = dict(zip(ways_of(table), names))
     return Table([named[symbol] for symbol in table.symbols])
 
 
@@ -63,8 +69,8 @@ def renaming(table, other):
     if table.size() != other.size():
         return None
     named = dict(zip(table.symbols, other.symbols))
-    names = [named[symbol] for symbol in table.ways]
-    if len(names) != len(other.ways) or [named[symbol] for symbol in table.symbols] != other.symbols:
+    names = [named[symbol] for symbol in ways_of(table)]
+    if len(names) != len(ways_of(other)) or [named[symbol] for symbol in table.symbols] != other.symbols:
         return None
     return names
 
@@ -75,65 +81,53 @@ def written_apart(table, last, other_last):
     check_state(table, last, "last")
     check_state(table, other_last, "other_last")
     check_size(table, MOST_STATES)
-    ways = bits_back(table)
-    return first_told(table, ways, last, ways, other_last)
-
-
-def costs_back(table):
-    """For each state, a tuple (place, bits) for each symbol: where writing leads, and what it costs."""
-    columns = [ways_back(table, symbol) for symbol in table.ways]
-    return [[column[state][:2] for column in columns] for state in range(table.size())]
-
-
-def bits_back(table):
-    """For each state, a tuple (place, told) for each symbol, with the bits that are written, as a tuple."""
-    columns = [ways_back(table, symbol) for symbol in table.ways]
-    return [[(column[state][0], column[state][1:]) for column in columns] for state in range(table.size())]
+    return first_told([table, table], last, other_last, True)
 
 
 def class_numbers(tables):
-    """Numbers for the states of some tables, one table behind the other: those that are alike have the same."""
+    """Numbers for blocks of states of some tables, the same ones for those that are alike, and a shift for each table.
+
+    The blocks of a table are 2 ** shift states each, one behind the other.
+    """
     rows = []
+    keys = []
+    shifts = []
     for table in tables:
         ahead = len(rows)
-        rows.extend([[(ahead + place, bits) for place, bits in row] for row in costs_back(table)])
-    # States are first parted by what their symbols cost, and then by the numbers of the states that
-    # they lead to, until nothing is parted any more.
-    numbers = numbered([tuple([bits for _, bits in row]) for row in rows])
-    many = 0
-    while max(numbers) + 1 > many:
-        many = max(numbers) + 1
-        told = [tuple([numbers[place] for place, _ in row]) for row in rows]
-        numbers = numbered(list(zip(numbers, told)))
-    return numbers
+        shift, leads, costs = leads_of(table, list(ways_of(table)))
+        for at in range(table.size() >> shift):
+            rows.append([ahead + at] + [ahead + (column[at] >> shift) for column in leads])
+            keys.append(tuple([column[at] for column in costs]))
+        shifts.append(shift)
+    return parted(rows, keys), shifts
 
 
-def numbered(keys):
-    """Numbers from 0 on for a list of keys, in the order in which they first stand there."""
-    numbers = {}
-    for key in keys:
-        numbers.setdefault(key, len(numbers))
-    return [numbers[key] for key in keys]
-
-
-def first_told(table, ways, last, others, other_last):
-    """The first text whose writing tells two states apart, or None.
-
-    `ways` and `others` have a tuple (place, told) for each symbol, for each state.
-    """
+def first_told(tables, last, other_last, is_by_bits):
+    """The first text that two last states tell apart, by its cost, or with `is_by_bits` by its bits, or None."""
+    symbols = list(ways_of(tables[0]))
+    shift, leads, costs = leads_of(tables[0], symbols)
+    other_shift, other_leads, other_costs = leads_of(tables[1], symbols)
+    columns = list(zip(symbols, leads, costs, other_leads, other_costs))
+    # All costs hang on the blocks of the states alone, but the bits hang on the states themselves.
+    fine = 0 if is_by_bits else shift
+    other_fine = 0 if is_by_bits else other_shift
     seen = set()
-    seen.add((last, other_last))
+    seen.add((last >> fine, other_last >> other_fine))
     level = [(last, other_last, [])]
     while len(level) > 0:
         longer = []
         # Texts grow at their front, as they are written: shorter ones first, and of those the least from behind.
         for state, opposite, text in level:
-            for symbol, (place, told), (there, heard) in zip(table.ways, ways[state], others[opposite]):
-                if told != heard:
+            at = state >> shift
+            there = opposite >> other_shift
+            for symbol, lead, cost, other_lead, other_cost in columns:
+                bits = cost[at]
+                if bits != other_cost[there] or is_by_bits and (state ^ opposite) & ((1 << bits) - 1) > 0:
                     return [symbol] + text
-                if (place, there) not in seen:
-                    seen.add((place, there))
-                    longer.append((place, there, [symbol] + text))
+                place = (lead[at] >> fine, other_lead[there] >> other_fine)
+                if place not in seen:
+                    seen.add(place)
+                    longer.append((lead[at], other_lead[there], [symbol] + text))
         level = longer
     return None
 
@@ -147,7 +141,7 @@ def are_names(value, many):
 
 def check_other(table, other):
     """Raises InvalidBound for what is no table with the same symbols."""
-    if not isinstance(other, Table) or list(other.ways) != list(table.ways):
+    if not isinstance(other, Table) or list(ways_of(other)) != list(ways_of(table)):
         raise InvalidBound("other")
 
 

@@ -1,22 +1,62 @@
-"""Blocks of a text, each with its table, whose state goes over from a block to the one ahead of it."""
+"""Blocks of a text, each with a table by its name, whose state goes over from a block to the one ahead of it."""
 
-from spreadstates.coding import written
+from spreadstates.coding import spent_on, written
+from spreadstates.tables import ways_of
 
 
-def carried(tables, texts, last):
-    """What writing blocks goes through from the last one to the first one, and the state that is reached at last."""
-    passed = []
+class Block:
+    """A text that is written by the table of a name, which nothing changes.
+
+    `states` and `widths` are what `written` returns, and `spent` is the sum of the widths.
+    """
+
+    def __init__(self, name, text, states, widths):
+        self.name = name
+        self.text = text
+        self.states = states
+        self.widths = widths
+        self.spent = sum(widths)
+
+
+def block_of(table, name, text, last):
+    """The block of a text, written from the state `last` on."""
+    states, widths = written(ways_of(table), table.size(), text, last)
+    return Block(name, text, states, widths)
+
+
+def block_from(table, block, last):
+    """A block that is written from another state on."""
+    ways = ways_of(table)
+    size = table.size()
+    states = [last]
+    widths = []
     state = last
-    for index in range(len(texts) - 1, -1, -1):
-        more, state = written(tables[index], texts[index], state)
-        passed.extend(more)
-    return passed, state
+    # As soon as writing comes to a state that it came to before at this place, all goes on as before.
+    for symbol, known in zip(reversed(block.text), block.states[1:]):
+        edge, wide, fronts = ways[symbol]
+        if state < edge:
+            wide -= 1
+        state = fronts[(size + state) >> wide]
+        states.append(state)
+        widths.append(wide)
+        if state == known:
+            break
+    many = len(widths)
+    return Block(block.name, block.text, states + block.states[many + 1:], widths + block.widths[many:])
 
 
-def cost_ahead(table, text, last):
-    """The bits of a block, and the state in which it begins."""
-    passed, state = written(table, text, last)
-    return sum([bits for _, bits in passed]), state
+def parts_of(block, many):
+    """The two blocks of the first `many` symbols of a block, and of its other ones."""
+    rest = len(block.text) - many
+    return [
+        Block(block.name, block.text[:many], block.states[rest:], block.widths[rest:]),
+        Block(block.name, block.text[many:], block.states[:rest + 1], block.widths[:rest]),
+    ]
+
+
+def joined_block(block, behind):
+    """The block of two blocks with one name, of which the first one begins where the second one ends in writing."""
+    return Block(block.name, block.text + behind.text, behind.states + block.states[1:], behind.widths + block.widths)
 
 
 def least_names(named, texts, last):
@@ -50,11 +90,12 @@ def ways_ahead(named, text, level):
     for name, table in named.items():
         if fits(table, text):
             for behind, rest in level.items():
-                bits, start = cost_ahead(table, text, behind)
+                bits, start = spent_on(ways_of(table), table.size(), text, behind)
                 rows.append((name, start, rest + bits, behind, rest))
     return rows
 
 
 def fits(table, text):
     """Whether a table has all symbols of a text."""
-    return all([symbol in table.ways for symbol in text])
+    known = ways_of(table)
+    return not [symbol for symbol in sorted(set(text)) if symbol not in known]

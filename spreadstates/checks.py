@@ -71,12 +71,28 @@ def first_wrong(items, greatest):
 
 def is_stream(value):
     """Whether a value is a list of bits."""
-    return isinstance(value, list) and first_wrong(value, 1) < 0
+    return isinstance(value, list) and are_bits(value)
 
 
-def is_text(value):
-    """Whether a value is a text."""
-    return isinstance(value, list) and len(value) <= LONGEST_TEXT and first_wrong(value, MOST_SYMBOLS - 1) < 0
+def are_bits(items):
+    """Whether all items of a list are bits."""
+    # Streams are the longest lists, so little is asked of each item: here all are equal to 0 or 1, but neither
+    # True nor False. Of what may be equal to these, only integers have an integer as their sum.
+    strange = [item for item in items if (item is False if item == 0 else item is True or item != 1)]
+    return not strange and isinstance(sum(items), int)
+
+
+def are_integers(items):
+    """Whether all items of a list are integers."""
+    return not [item for item in items if not isinstance(item, int) or item is True or item is False]
+
+
+def is_known_text(value, known):
+    """Whether a value is a text of symbols that a dict has as keys; none of its keys is anything else."""
+    if not isinstance(value, list) or len(value) > LONGEST_TEXT or not are_integers(value):
+        return False
+    # Texts are long, but have few unlike symbols.
+    return not [symbol for symbol in sorted(set(value)) if symbol not in known]
 
 
 def is_ascending(value, known):
@@ -95,11 +111,12 @@ def check_text(text):
     """Raises InvalidText for what is no text; the empty text is one."""
     if not isinstance(text, list):
         raise InvalidText(-1)
-    at = first_wrong(text[:LONGEST_TEXT], MOST_SYMBOLS - 1)
+    if len(text) > LONGEST_TEXT:
+        at = first_wrong(text[:LONGEST_TEXT], MOST_SYMBOLS - 1)
+        raise InvalidText(LONGEST_TEXT if at < 0 else at)
+    at = first_wrong(text, MOST_SYMBOLS - 1)
     if at >= 0:
         raise InvalidText(at)
-    if len(text) > LONGEST_TEXT:
-        raise InvalidText(LONGEST_TEXT)
 
 
 def check_symbols(text, known):
@@ -107,6 +124,13 @@ def check_symbols(text, known):
     strange = [symbol for symbol in text if symbol not in known]
     if strange:
         raise InvalidSymbol(strange[0])
+
+
+def check_known_text(text, known):
+    """Raises the errors of a text, and then of symbols that a dict has not as keys."""
+    if not is_known_text(text, known):
+        check_text(text)
+        check_symbols(text, known)
 
 
 def check_spread(spread):
@@ -124,9 +148,8 @@ def check_stream(stream):
     """Raises InvalidStream for what is no list of bits."""
     if not isinstance(stream, list):
         raise InvalidStream(-1)
-    at = first_wrong(stream, 1)
-    if at >= 0:
-        raise InvalidStream(at)
+    if not are_bits(stream):
+        raise InvalidStream(first_wrong(stream, 1))
 
 
 def check_within(value, least, most, name):

@@ -2,7 +2,7 @@
 
 from heapq import heapify, heapreplace
 
-from spreadstates.checks import check_bits, check_numbers, check_text
+from spreadstates.checks import MOST_SYMBOLS, check_bits, check_numbers, check_text
 from spreadstates.checks import is_counts, sum_of, symbols_of
 from spreadstates.errors import InvalidBound, InvalidText, LimitExceeded
 from spreadstates.wholes import power
@@ -16,24 +16,13 @@ def numbers_of(text):
     check_text(text)
     if len(text) == 0:
         raise InvalidText(0)
-    numbers = {}
-    for symbol in text:
-        numbers[symbol] = numbers.get(symbol, 0) + 1
-    return sorted(numbers.items())
+    return numbers_in(text)
 
 
 def by_rests(numbers, bits):
     """Counts in proportion to numbers; what is missing goes by the rests of the division."""
     check_counting(numbers, bits)
-    size = 1 << bits
-    total = sum_of(numbers)
-    counts = [max(1, number * size // total) for _, number in numbers]
-    missing = size - sum(counts)
-    if missing < 0:
-        return named(numbers, lessened(counts, -missing))
-    for at in places_by_rests(numbers, size)[:missing]:
-        counts[at] += 1
-    return named(numbers, counts)
+    return named(numbers, shares_of([number for _, number in numbers], bits))
 
 
 def by_product(numbers, bits):
@@ -92,14 +81,35 @@ def named(numbers, counts):
     return list(zip(symbols_of(numbers), counts))
 
 
-def places_by_rests(numbers, size):
-    """The indices of the numbers with a share of at least 1, by their rests, the greatest first."""
-    total = sum_of(numbers)
-    places = []
-    for at, (_, number) in enumerate(numbers):
-        if number * size >= total:
-            places.append((-(number * size % total), at))
-    return [at for _, at in sorted(places)]
+def numbers_in(text):
+    """The numbers of what is surely a text; none for the empty one."""
+    numbers = {}
+    for symbol in text:
+        numbers[symbol] = numbers.get(symbol, 0) + 1
+    return sorted(numbers.items())
+
+
+def shares_of(numbers, bits):
+    """The counts by rests for mere numbers, of which there are no more than states."""
+    total = sum(numbers)
+    counts = []
+    # One integer for each share of at least 1 tells its rest, the greatest ones being the least, and its index.
+    rests = []
+    for at, number in enumerate(numbers):
+        whole = number << bits
+        count = whole // total
+        if count == 0:
+            counts.append(1)
+        else:
+            counts.append(count)
+            rests.append((count * total - whole) * MOST_SYMBOLS + at)
+    missing = (1 << bits) - sum(counts)
+    if missing < 0:
+        return lessened(counts, -missing)
+    if missing > 0:
+        for told in sorted(rests)[:missing]:
+            counts[told % MOST_SYMBOLS] += 1
+    return counts
 
 
 def lessened(counts, many):

@@ -4,7 +4,7 @@ from spreadstates.checks import check_flag, check_many, check_stream, check_with
 from spreadstates.coding import check_end, check_reading, places_from, places_in
 from spreadstates.errors import InvalidBound, InvalidStream, LimitExceeded
 from spreadstates.streams import idle_runs
-from spreadstates.tables import check_size, check_state, check_table
+from spreadstates.tables import check_size, check_state, check_table, reads_of, ways_of
 from spreadstates.wholes import bits_of, is_within, number_of, power
 
 LONGEST_BITS = 12
@@ -51,7 +51,7 @@ def meeting(table, stream, one, other):
     check_stream(stream)
     check_state(table, one, "one")
     check_state(table, other, "other")
-    if len(table.ways) == 1:
+    if len(ways_of(table)) == 1:
         return (0, 0) if one == other else None
     idle = idle_runs(table)
     here = (0, 0, one)
@@ -72,7 +72,7 @@ def meeting_bits(table, most):
     check_table(table)
     check_within(most, 0, LONGEST_BITS, "most")
     check_size(table, MOST_READERS)
-    if len(table.ways) == 1:
+    if len(ways_of(table)) == 1:
         return None
     rests = [state for _, state in idle_runs(table)]
     # A reader is a tuple (state, bits, number) with the bits so far that are too few for the state.
@@ -191,7 +191,7 @@ def gone_on(table, idle, stream, reader):
     """The reader, a tuple (many, used, state), behind the next bits that it needs; None if there are too few."""
     many, used, state = reader
     symbols, rest = idle[state]
-    _, bits, base = table.reads[rest]
+    _, bits, base = reads_of(table)[rest]
     if used + bits > len(stream):
         return None
     return many + symbols + 1, used + bits, base + number_of(stream[used:used + bits])
@@ -212,17 +212,17 @@ def met(table, here, there):
 def idle_states(table, first):
     """The states to which a reader goes on without bits, the first one in front."""
     states = [first]
-    _, bits, base = table.reads[first]
+    _, bits, base = reads_of(table)[first]
     while bits == 0:
         states.append(base)
-        _, bits, base = table.reads[base]
+        _, bits, base = reads_of(table)[base]
     return states
 
 
 def with_bit(table, rests, reader, bit):
     """The reader, a tuple (state, bits, number), behind one bit more, going on as long as it can."""
     state, bits, number = reader
-    _, wide, base = table.reads[state]
+    _, wide, base = reads_of(table)[state]
     if bits + 1 < wide:
         return state, bits + 1, 2 * number + bit
     return rests[base + 2 * number + bit], 0, 0
@@ -236,7 +236,7 @@ def right_streams(table, many):
         longer = []
         for stream, places in found:
             state, used = places[-1]
-            _, bits, base = table.reads[state]
+            _, bits, base = reads_of(table)[state]
             for number in range(1 << bits):
                 longer.append((stream + bits_of(number, bits), places + [(base + number, used + bits)]))
         found = longer
@@ -271,5 +271,5 @@ def check_turning(table, many):
 
 def check_streams(table, many):
     """Raises LimitExceeded if there are more right streams than can be looked at one by one."""
-    if table.size() * power(len(table.ways), many) > MOST_STREAMS:
+    if table.size() * power(len(ways_of(table)), many) > MOST_STREAMS:
         raise LimitExceeded(MOST_STREAMS)

@@ -1,11 +1,11 @@
 """Desks: blocks with tables by names that make one stream, and calls that change them."""
 
-from spreadstates.blocks import carried, cost_ahead, fits, least_names
-from spreadstates.checks import LONGEST_TEXT, MOST_SYMBOLS, check_bits, check_stream, first_wrong, is_text
-from spreadstates.coding import laid, number_at, passed_from
+from spreadstates.blocks import block_from, block_of, fits, joined_block, least_names, parts_of
+from spreadstates.checks import LONGEST_TEXT, MOST_SYMBOLS, check_bits, check_stream, first_wrong, is_known_text
+from spreadstates.coding import bits_along, number_at, read_from, symbols_in_states
 from spreadstates.errors import InvalidBound, InvalidCall, LimitExceeded
 from spreadstates.lengths import MOST_LENGTHS, costs_behind
-from spreadstates.tables import Table
+from spreadstates.tables import Table, ways_of
 from spreadstates.wholes import is_within
 
 LONGEST_NAME = 8
@@ -14,10 +14,9 @@ LONGEST_NAME = 8
 class Desk:
     """Tables by names, a row of blocks, and a last state.
 
-    `named` has the tables, `parts` the tuples (name, text) of the blocks, `spent` their bits, and
-    `starts` the states in which they begin, with the last state behind them. `many` and `total` are
-    the numbers of all symbols and bits of the blocks. `done` has the calls that were done, and `backs`
-    the steps that take them back.
+    `named` has the tables, `parts` the blocks, and `state` is the last state; each block is written from
+    the state in which the next one begins. `many` and `total` are the numbers of all symbols and bits of
+    the blocks. `done` has the calls that were done, and `backs` tells how they are taken back.
     """
 
     def __init__(self, bits):
@@ -25,17 +24,17 @@ class Desk:
         self.width = bits
         self.named = {}
         self.parts = []
-        self.spent = []
-        self.starts = [0]
+        self.state = 0
         self.many = 0
         self.total = 0
         self.done = []
         self.backs = []
 
     def __eq__(self, other):
-        if not isinstance(other, Desk) or self.width != other.width or self.starts[-1] != other.starts[-1]:
+        if not isinstance(other, Desk) or self.width != other.width or self.state != other.state:
             return False
-        return self.named == other.named and self.parts == other.parts
+        own = [(block.name, block.text) for block in self.parts]
+        return self.named == other.named and own == [(block.name, block.text) for block in other.parts]
 
     def tables(self):
         """The tuples (name, table), ascending."""
@@ -43,11 +42,11 @@ class Desk:
 
     def blocks(self):
         """The tuples (name, text) of all blocks."""
-        return [(name, list(text)) for name, text in self.parts]
+        return [(block.name, list(block.text)) for block in self.parts]
 
     def last(self):
         """The last state."""
-        return self.starts[-1]
+        return self.state
 
     def do(self, call):
         """Does a call; returns how many bits the whole stream is longer than before."""
@@ -67,16 +66,20 @@ class Desk:
         """Takes the last call back; returns whether there was one."""
         if len(self.backs) == 0:
             return False
-        taken(self, self.backs.pop())
+        take_back(self, self.backs.pop())
         self.done.pop()
         return True
 
     def written(self):
         """The stream of all blocks."""
-        tables = [self.named[name] for name, _ in self.parts]
-        passed, state = carried(tables, [text for _, text in self.parts], self.starts[-1])
-        passed.append((state, self.width))
-        return laid(passed)
+        numbers = []
+        widths = []
+        for block in reversed(self.parts):
+            numbers += block.states[:-1]
+            widths += block.widths
+        numbers.append(state_behind(self, 0))
+        widths.append(self.width)
+        return bits_along(numbers[::-1], widths[::-1])
 
     def length(self):
         """The number of bits of the stream of all blocks."""
@@ -84,11 +87,11 @@ class Desk:
 
     def costs(self):
         """The bits of all blocks."""
-        return list(self.spent)
+        return [block.spent for block in self.parts]
 
     def entries(self):
         """The states in which the blocks begin, and the last state."""
-        return list(self.starts)
+        return [block.states[-1] for block in self.parts] + [self.state]
 
     def read(self, stream):
         """Reads a list of bits by the tables and numbers of symbols of the blocks: the tuple (texts, last, used)."""
@@ -96,25 +99,26 @@ class Desk:
         state = number_at(stream, 0, self.width)
         used = self.width
         texts = []
-        for name, text in self.parts:
-            passed, state, used = passed_from(self.named[name], state, stream, used, len(text))
-            texts.append([symbol for _, symbol, _, _ in passed])
+        for block in self.parts:
+            table = self.named[block.name]
+            states, state, used = read_from(table, state, stream, used, len(block.text), False)
+            texts.append(symbols_in_states(table, states))
         return texts, state, used
 
     def best_last(self):
         """The least length over all last states, and the least last state that has it."""
         check_parts(self, 1)
         found = [self.width] * (1 << self.width)
-        for name, text in self.parts:
-            for symbol in text:
-                found = costs_behind(self.named[name], symbol, found)
+        for block in self.parts:
+            for symbol in block.text:
+                found = costs_behind(self.named[block.name], symbol, found)
         least = min(found)
         return least, found.index(least)
 
     def best_names(self):
         """The least length over all names that the blocks can have, and the first list of names that has it."""
         check_parts(self, len(self.named))
-        least, names = least_names(self.named, [text for _, text in self.parts], self.starts[-1])
+        least, names = least_names(self.named, [block.text for block in self.parts], self.state)
         return self.width + least, names
 
 
@@ -168,14 +172,14 @@ def table_step(desk, name, spread):
     if first_wrong(spread, MOST_SYMBOLS - 1) >= 0:
         return None
     table = Table(spread)
-    if not all([fits(table, text) for other, text in desk.parts if other == name]):
+    if not all([fits(table, block.text) for block in desk.parts if block.name == name]):
         return None
     return ("table", name, table)
 
 
 def forget_step(desk, name):
     """The step by which a table goes."""
-    if not is_known(desk, name) or name in [other for other, _ in desk.parts]:
+    if not is_known(desk, name) or name in [block.name for block in desk.parts]:
         return None
     return ("table", name, None)
 
@@ -184,93 +188,123 @@ def block_step(desk, at, name, text):
     """The step by which a block is put in."""
     if not is_within(at, 0, len(desk.parts)) or not is_known(desk, name):
         return None
-    if not is_text(text) or len(text) == 0 or not fits(desk.named[name], text):
+    table = desk.named[name]
+    if not is_known_text(text, ways_of(table)) or len(text) == 0 or len(text) + desk.many > LONGEST_TEXT:
         return None
-    if len(text) + desk.many > LONGEST_TEXT:
-        return None
-    return ("blocks", at, 0, [(name, list(text))])
+    return ("blocks", at, 0, [block_of(table, name, list(text), state_behind(desk, at))])
 
 
 def cut_step(desk, at, many):
     """The step by which a block becomes two."""
-    name, text = desk.parts[at]
-    if not is_within(many, 1, len(text) - 1):
+    block = desk.parts[at]
+    if not is_within(many, 1, len(block.text) - 1):
         return None
-    return ("blocks", at, 1, [(name, text[:many]), (name, text[many:])])
+    return ("blocks", at, 1, parts_of(block, many))
 
 
 def join_step(desk, at):
     """The step by which a block and the next one become one."""
     if at + 1 == len(desk.parts):
         return None
-    name, text = desk.parts[at]
-    other, more = desk.parts[at + 1]
-    return ("blocks", at, 2, [(name, text + more)]) if other == name else None
+    block = desk.parts[at]
+    behind = desk.parts[at + 1]
+    return ("blocks", at, 2, [joined_block(block, behind)]) if block.name == behind.name else None
 
 
 def switch_step(desk, at, name):
     """The step by which a block gets a name."""
-    _, text = desk.parts[at]
-    if not is_known(desk, name) or not fits(desk.named[name], text):
+    block = desk.parts[at]
+    if not is_known(desk, name) or not fits(desk.named[name], block.text):
         return None
-    return ("blocks", at, 1, [(name, text)])
+    return ("blocks", at, 1, [block_of(desk.named[name], name, block.text, block.states[0])])
+
+
+def state_behind(desk, at):
+    """The state in which block number `at` begins, and all that stands behind it."""
+    return desk.parts[at].states[-1] if at < len(desk.parts) else desk.state
 
 
 def taken(desk, step):
-    """Takes a step; returns the step that takes it back."""
+    """Takes a step; returns what `take_back` needs: a name and its table, the last state, and blocks to put back."""
+    name = None
+    table = None
+    state = desk.state
+    at, many, blocks = len(desk.parts), 0, []
     if step[0] == "table":
-        return table_taken(desk, step[1], step[2])
-    if step[0] == "blocks":
-        return blocks_taken(desk, step[1], step[2], step[3])
-    back = ("last", desk.starts[-1])
-    desk.starts[-1] = step[1]
-    settle(desk, len(desk.parts) - 1, len(desk.parts) - 1)
-    return back
+        name = step[1]
+        table = desk.named.get(name)
+        set_table(desk, name, step[2])
+        at, blocks = blocks_anew(desk, name)
+        many = len(blocks)
+    elif step[0] == "blocks":
+        _, at, many, blocks = step
+    else:
+        desk.state = step[1]
+    low, fresh = settled(desk, at, many, blocks)
+    old = put_blocks(desk, low, at + many - low, fresh)
+    return name, table, state, low, len(fresh), old
 
 
-def table_taken(desk, name, table):
-    """Gives a table a name, or takes the name away; returns the step that takes this back."""
-    back = ("table", name, desk.named.get(name))
+def take_back(desk, back):
+    """Takes back what `taken` did."""
+    name, table, state, low, many, blocks = back
+    if name is not None:
+        set_table(desk, name, table)
+    desk.state = state
+    put_blocks(desk, low, many, blocks)
+
+
+def set_table(desk, name, table):
+    """Gives a table a name, or takes the name away if it is None."""
     if table is None:
         del desk.named[name]
     else:
         desk.named[name] = table
-    readers = [at for at, (other, _) in enumerate(desk.parts) if other == name]
-    if len(readers) > 0:
-        settle(desk, readers[-1], readers[0])
-    return back
 
 
-def blocks_taken(desk, at, many, parts):
-    """Replaces blocks by some parts; returns the step that takes this back."""
+def blocks_anew(desk, name):
+    """The first block that has the name of another table now, and the blocks from there on to the last such one."""
+    readers = [at for at, block in enumerate(desk.parts) if block.name == name]
+    if len(readers) == 0:
+        return len(desk.parts), []
+    state = state_behind(desk, readers[-1] + 1)
+    found = []
+    for at in range(readers[-1], readers[0] - 1, -1):
+        block = desk.parts[at]
+        if block.name == name:
+            block = block_of(desk.named[name], name, block.text, state)
+        elif block.states[0] != state:
+            block = block_from(desk.named[block.name], block, state)
+        state = block.states[-1]
+        found.append(block)
+    return readers[0], found[::-1]
+
+
+def settled(desk, at, many, blocks):
+    """The blocks that come in the place of `many` ones, with those ahead whose states change; where they begin."""
+    state = blocks[0].states[-1] if len(blocks) > 0 else state_behind(desk, at + many)
+    low = at
+    ahead = []
+    while low > 0 and desk.parts[low - 1].states[0] != state:
+        low -= 1
+        block = desk.parts[low]
+        ahead.append(block_from(desk.named[block.name], block, state))
+        state = ahead[-1].states[-1]
+    return low, ahead[::-1] + blocks
+
+
+def put_blocks(desk, at, many, blocks):
+    """Puts blocks in the place of `many` ones; returns these."""
     old = desk.parts[at:at + many]
-    desk.many += many_symbols(parts) - many_symbols(old)
-    desk.total -= sum(desk.spent[at:at + many])
-    desk.parts[at:at + many] = parts
-    desk.spent[at:at + many] = [0] * len(parts)
-    # What is ahead was written from the state that stood here, until `settle` finds another one.
-    desk.starts[at:at + many] = [desk.starts[at]] * len(parts)
-    low = at if len(parts) > 0 else at - 1
-    settle(desk, low + max(0, len(parts) - 1), low)
-    return ("blocks", at, len(parts), old)
+    desk.parts[at:at + many] = blocks
+    desk.many += many_symbols(blocks) - many_symbols(old)
+    desk.total += sum([block.spent for block in blocks]) - sum([block.spent for block in old])
+    return old
 
 
-def settle(desk, top, low):
-    """Finds bits and states of the blocks from `top` down to `low` anew, and on ahead as long as states change."""
-    for at in range(top, -1, -1):
-        name, text = desk.parts[at]
-        bits, start = cost_ahead(desk.named[name], text, desk.starts[at + 1])
-        is_same = desk.starts[at] == start
-        desk.total += bits - desk.spent[at]
-        desk.spent[at] = bits
-        desk.starts[at] = start
-        if is_same and at <= low:
-            return
-
-
-def many_symbols(parts):
+def many_symbols(blocks):
     """How many symbols some blocks have."""
-    return sum([len(text) for _, text in parts])
+    return sum([len(block.text) for block in blocks])
 
 
 def is_name(value):

@@ -2,112 +2,93 @@
 
 from math import gcd, lcm
 
-from spreadstates.checks import sum_of, symbols_of
-from spreadstates.equations import solved
-from spreadstates.tables import ways_back
+from spreadstates.checks import symbols_of
+from spreadstates.leads import closed_in, leads_of, parted
 from spreadstates.wholes import lowest
 
-
-def reaches_of(table, symbols):
-    """For each state, the states that writing some symbols leads to, itself among them, as bits of an integer."""
-    reaches = [1 << state for state in range(table.size())]
-    for symbol in symbols:
-        for state, (place, _, _) in enumerate(ways_back(table, symbol)):
-            reaches[state] |= 1 << place
-    for through in range(table.size()):
-        for state in range(table.size()):
-            if reaches[state] >> through & 1:
-                reaches[state] |= reaches[through]
-    return reaches
+# Besides the places to which it leads, a row tells how many bits and symbols are written.
+BITS = -1
+SYMBOLS = -2
 
 
-def closed_in(reaches):
-    """The closed classes, as ascending lists of states, ascending."""
-    found = []
-    for state, reach in enumerate(reaches):
-        states = states_in(reach)
-        if states[0] == state and all([reaches[other] == reach for other in states]):
-            found.append(states)
-    return found
-
-
-def states_in(reach):
-    """The ascending list of the states that are bits of an integer."""
-    return [state for state in range(reach.bit_length()) if reach >> state & 1]
+def closed_states(table, symbols):
+    """The closed classes of states, ascending, if some symbols are written in any order."""
+    shift, leads, _ = leads_of(table, symbols)
+    blocks = [[column[at] >> shift for column in leads] for at in range(table.size() >> shift)]
+    # What is led to from the blocks of a closed class are its states.
+    return [sorted({column[at] for column in leads for at in places}) for places in closed_in(blocks)]
 
 
 def mean_from(table, weights, last):
     """The mean number of bits for one drawn symbol, as a fraction, if writing begins in the state `last`."""
-    weights = shortened(weights)
-    total = sum_of(weights)
-    reaches = reaches_of(table, symbols_of(weights))
-    leads, spent = draws_of(table, weights)
-    means = {}
-    for states in closed_in(reaches):
-        if reaches[last] >> states[0] & 1:
-            mean = mean_within(states, leads, spent, total)
-            for state in states:
-                means[state] = mean
-    if last in means:
-        return means[last]
-    outside = [state for state in states_in(reaches[last]) if state not in means and state != last]
-    return mean_outside(outside + [last], leads, means, total)
-
-
-def shortened(weights):
-    """The weights without what divides all of them."""
-    common = 0
-    for _, weight in weights:
-        common = gcd(common, weight)
-    return [(symbol, weight // common) for symbol, weight in weights]
-
-
-def draws_of(table, weights):
-    """For each state, the tuples (place, weight) of where drawn symbols lead, and the sum of weights times bits."""
-    leads = [[] for _ in range(table.size())]
-    spent = [0] * table.size()
-    for symbol, weight in weights:
-        for state, (place, bits, _) in enumerate(ways_back(table, symbol)):
-            leads[state].append((place, weight))
-            spent[state] += weight * bits
-    return leads, spent
-
-
-def mean_within(states, leads, spent, total):
-    """The mean of a closed class, as a fraction."""
-    # The share of the last state is taken as 1 at first. What comes into each other state by a drawn
-    # symbol must be what goes out of it.
-    many = len(states) - 1
-    places = {state: at for at, state in enumerate(states)}
-    rows = [[0] * at + [total] + [0] * (many - at) for at in range(many)]
-    for at, state in enumerate(states):
-        for place, weight in leads[state]:
-            to = places[place]
-            if to < many:
-                rows[to][at] += -weight if at < many else weight
-    shares, below = solved(rows)
-    shares.append(below)
-    return lowest(sum([share * spent[state] for share, state in zip(shares, states)]), total * sum(shares))
-
-
-def mean_outside(states, leads, means, total):
-    """The mean for the last one of some states outside of the closed classes, whose means are known."""
-    # The mean of each state is the one of the states that it leads to, by their weights; a common
-    # denominator makes whole numbers of the means that are known.
+    rows, first = rows_from(table, weights, last)
+    # What is left at last are one place of each closed class, which leads to itself alone, and the first place.
+    for place in list(rows):
+        if place != first and out_of(rows[place], place) > 0:
+            leave_out(rows, place)
+    row = rows[first]
+    total = out_of(row, first)
+    if total == 0:
+        return lowest(row[BITS], row[SYMBOLS])
+    ends = [(row.get(place, 0), end[BITS], end[SYMBOLS]) for place, end in rows.items() if place != first]
     common = 1
-    for _, below in means.values():
-        common = lcm(common, below)
-    places = {state: at for at, state in enumerate(states)}
-    rows = []
-    for at, state in enumerate(states):
-        row = [0] * (len(states) + 1)
-        row[at] = total
-        for place, weight in leads[state]:
-            if place in places:
-                row[places[place]] -= weight
-            else:
-                above, below = means[place]
-                row[len(states)] += weight * above * (common // below)
-        rows.append(row)
-    numbers, below = solved(rows)
-    return lowest(numbers[-1], below * common)
+    for _, _, symbols in ends:
+        common = lcm(common, symbols)
+    parts = [weight * bits * (common // symbols) for weight, bits, symbols in ends]
+    return lowest(sum(parts), total * common)
+
+
+def rows_from(table, weights, last):
+    """The rows of all places that are reached from a state, as a dict, and the place of this state.
+
+    A place is a class of states that do alike. A row tells by what weight it leads to each place, and
+    the sum of weights times bits, and of weights, for one drawn symbol.
+    """
+    shift, leads, costs = leads_of(table, symbols_of(weights))
+    only = [weight for _, weight in weights]
+    blocks = [[at] + [column[at] >> shift for column in leads] for at in range(table.size() >> shift)]
+    spent = [sum([weight * column[at] for weight, column in zip(only, costs)]) for at in range(len(blocks))]
+    numbers = parted(blocks, spent)
+    rows = {}
+    ahead = [last >> shift]
+    while len(ahead) > 0:
+        at = ahead.pop()
+        if numbers[at] not in rows:
+            row = {BITS: spent[at], SYMBOLS: sum(only)}
+            for place, weight in zip(blocks[at][1:], only):
+                row[numbers[place]] = row.get(numbers[place], 0) + weight
+            rows[numbers[at]] = row
+            ahead += blocks[at][1:]
+    return rows, numbers[last >> shift]
+
+
+def out_of(row, place):
+    """The weight by which the row of a place leads to others."""
+    return sum([weight for to, weight in row.items() if to >= 0 and to != place])
+
+
+def leave_out(rows, place):
+    """Takes a place out of rows, which lead on from there at once to where it leads to."""
+    beyond = {to: number for to, number in rows[place].items() if to != place}
+    out = out_of(beyond, place)
+    del rows[place]
+    for other, row in list(rows.items()):
+        weight = row.get(place, 0)
+        if weight > 0:
+            common = gcd(weight, out)
+            times = out // common
+            part = weight // common
+            found = {to: number * times for to, number in row.items() if to != place}
+            for to, number in beyond.items():
+                found[to] = found.get(to, 0) + number * part
+            rows[other] = shortened(found)
+
+
+def shortened(row):
+    """A row without what divides all of its numbers."""
+    common = 0
+    for number in row.values():
+        common = gcd(common, number)
+        if common == 1:
+            return row
+    return {to: number // common for to, number in row.items()}

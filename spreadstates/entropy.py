@@ -1,13 +1,14 @@
 """How far tables are from the ideal length."""
 
 from spreadstates.checks import check_text, check_within, is_ascending, sum_if_numbers, sum_of, symbols_of
-from spreadstates.coding import check_writing, written
-from spreadstates.counts import by_rests, numbers_of
-from spreadstates.drawing import closed_in, mean_from, reaches_of
+from spreadstates.coding import check_writing, spent_on
+from spreadstates.counts import numbers_in, numbers_of
+from spreadstates.drawing import closed_states, mean_from
 from spreadstates.errors import InvalidBound, LimitExceeded
 from spreadstates.logs import log_down, log_up, whole_log
-from spreadstates.makers import least_cost, spread_by
-from spreadstates.tables import check_size, check_state, check_table
+from spreadstates.makers import counts_by_rests, least_cost, ways_by_steps
+from spreadstates.spreads import places_by_steps
+from spreadstates.tables import check_size, check_state, check_table, count_in, ways_of
 from spreadstates.wholes import power
 
 LONGEST_TOLD = 2000
@@ -47,9 +48,8 @@ def cost_part(table, text, parts):
     check_within(parts, 1, MOST_PARTS, "parts")
     check_told(text)
     below = 1
-    for symbol, number in tallied(text):
-        _, _, places = table.ways[symbol]
-        below = below * power(len(places), number)
+    for symbol, number in numbers_in(text):
+        below = below * power(count_in(ways_of(table)[symbol]), number)
     return log_down(1 << (table.bits() * len(text)), below, parts)
 
 
@@ -60,8 +60,8 @@ def gap_part(table, text, last, parts):
     check_within(parts, 1, MOST_PARTS, "parts")
     check_told(text)
     above, below = ideal_of(text)
-    passed, _ = written(table, text, last)
-    return parts * sum([bits for _, bits in passed]) - log_up(above, below, parts)
+    bits, _ = spent_on(ways_of(table), table.size(), text, last)
+    return parts * bits - log_up(above, below, parts)
 
 
 def mean_bits(table, weights, last):
@@ -76,10 +76,10 @@ def mean_bits(table, weights, last):
 def closed_classes(table, symbols):
     """The closed classes, as ascending lists of states, if some symbols are written in any order."""
     check_table(table)
-    if not is_ascending(symbols, table.ways) or len(symbols) == 0:
+    if not is_ascending(symbols, ways_of(table)) or len(symbols) == 0:
         raise InvalidBound("symbols")
     check_size(table, MOST_MEAN_STATES)
-    return closed_in(reaches_of(table, symbols))
+    return closed_states(table, symbols)
 
 
 def mean_gap(table, weights, last, parts):
@@ -101,8 +101,8 @@ def mean_gap(table, weights, last, parts):
 def is_even(table):
     """Whether each symbol costs the same number of bits in all states."""
     check_table(table)
-    counts = [len(places) for _, _, places in table.ways.values()]
-    return all([count & (count - 1) == 0 for count in counts])
+    # Where a count is a power of two, no state is reached with one bit less than the others.
+    return all([edge == 0 for edge, _, _ in ways_of(table).values()])
 
 
 def least_table(text, extra, most):
@@ -115,19 +115,17 @@ def least_table(text, extra, most):
     # A cost is whole, so it may as well be compared with the ideal length rounded down.
     bound = whole_log(above, below) + extra
     for bits in range(1, most + 1):
-        if len(numbers) <= 1 << bits and least_cost(spread_by("steps", by_rests(numbers, bits)), text) <= bound:
-            return bits
+        size = 1 << bits
+        if len(numbers) <= size:
+            ways = ways_by_steps(counts_by_rests(numbers, bits), places_by_steps(size, 0))
+            if least_cost(ways, size, text) <= bound:
+                return bits
     return None
-
-
-def tallied(text):
-    """The numbers of a text; none for the empty one."""
-    return numbers_of(text) if text else []
 
 
 def ideal_of(text):
     """The fraction whose logarithm is the ideal length of a text, not in lowest terms."""
-    return ideal_for(tallied(text))
+    return ideal_for(numbers_in(text))
 
 
 def ideal_for(numbers):
@@ -141,7 +139,7 @@ def ideal_for(numbers):
 
 def check_weights(table, weights):
     """Raises InvalidBound for what are no weights of symbols of a table."""
-    if sum_if_numbers(weights) == 0 or not is_ascending(symbols_of(weights), table.ways):
+    if sum_if_numbers(weights) == 0 or not is_ascending(symbols_of(weights), ways_of(table)):
         raise InvalidBound("weights")
 
 

@@ -2,14 +2,15 @@
 
 from spreadstates.checks import MOST_BITS, MOST_SYMBOLS
 from spreadstates.checks import check_bits, check_counts, check_many, check_stream, check_text, check_within
-from spreadstates.checks import first_wrong, is_symbol, sum_of
-from spreadstates.coding import check_used, laid, number_at, passed_from, write
-from spreadstates.counts import by_rests, numbers_of
+from spreadstates.checks import are_bits, first_wrong, is_symbol, sum_of
+from spreadstates.coding import bits_along, check_used, laid, number_at, read_many, spent_on, symbols_in_states
+from spreadstates.coding import written
+from spreadstates.counts import numbers_of
 from spreadstates.errors import InvalidBound, InvalidHeader, InvalidStream, InvalidSymbol, LimitExceeded
-from spreadstates.lengths import length
-from spreadstates.spreads import spread_by_steps
-from spreadstates.tables import Table, check_state, check_table, way_back
-from spreadstates.wholes import bits_of, number_of
+from spreadstates.makers import counts_by_rests, table_by_steps, ways_by_steps
+from spreadstates.spreads import places_by_steps
+from spreadstates.tables import check_state, check_table, reads_of, way_back, ways_of
+from spreadstates.wholes import number_of
 
 SIZE_BITS = 4
 GROUP_BITS = 2
@@ -20,18 +21,8 @@ WIDEST = 10
 def header_of(counts):
     """The header of counts."""
     check_counts(counts)
-    left = sum_of(counts)
-    stream = bits_of(left.bit_length() - 1, SIZE_BITS)
-    ahead = -1
-    for symbol, count in counts:
-        gap = symbol - ahead - 1
-        if gap > 0:
-            stream.extend(bits_among(0, left + 1) + groups_of(gap - 1) + bits_among(count - 1, left))
-        else:
-            stream.extend(bits_among(count, left + 1))
-        left -= count
-        ahead = symbol
-    return stream
+    numbers, widths = parts_of(counts)
+    return bits_along(numbers, widths)
 
 
 def read_header(stream, at=0):
@@ -46,8 +37,13 @@ def pack(text, bits, last=0):
     numbers = numbers_of(text)
     check_bits(bits)
     check_within(last, 0, (1 << bits) - 1, "last")
-    counts = by_rests(numbers, bits)
-    return header_of(counts) + write(Table(spread_by_steps(counts)), text, last)
+    check_room(numbers, bits)
+    counts = counts_by_rests(numbers, bits)
+    told, widths = parts_of(counts)
+    size = 1 << bits
+    states, spent = written(ways_by_steps(counts, places_by_steps(size, 0)), size, text, last)
+    spent.append(bits)
+    return bits_along(told + states[::-1], widths + spent[::-1])
 
 
 def unpack(stream, many):
@@ -55,25 +51,19 @@ def unpack(stream, many):
     check_header_bits(stream)
     check_many(many)
     counts, at = header_at(stream, 0)
-    table = Table(spread_by_steps(counts))
-    first = number_at(stream, at, table.bits())
-    passed, last, used = passed_from(table, first, stream, at + table.bits(), many)
+    table = table_by_steps(counts)
+    states, last, used = read_many(table, stream, at, many, False)
     check_used(stream, used)
-    return [symbol for _, symbol, _, _ in passed], last
+    return symbols_in_states(table, states), last
 
 
 def shortest_pack(text, most):
     """The least length of a packed text for 1 to `most` bits, and the least number of bits that has it."""
     numbers = numbers_of(text)
     check_within(most, 1, MOST_BITS, "most")
-    if len(numbers) > 1 << most:
-        raise LimitExceeded(1 << most)
-    found = []
-    for bits in range(1, most + 1):
-        if len(numbers) <= 1 << bits:
-            counts = by_rests(numbers, bits)
-            found.append((len(header_of(counts)) + length(Table(spread_by_steps(counts)), text), bits))
-    return min(found)
+    check_room(numbers, most)
+    return min([(packed_length(numbers, text, bits), bits)
+                for bits in range(1, most + 1) if len(numbers) <= 1 << bits])
 
 
 def write_escaped(table, text, escape, width, last=0):
@@ -107,7 +97,7 @@ def read_escaped(table, stream, many, escape, width):
     state = number_at(stream, 0, at)
     text = []
     for _ in range(many):
-        symbol, bits, base = table.reads[state]
+        symbol, bits, base = reads_of(table)[state]
         if symbol == escape:
             symbol = number_at(stream, at, width)
             if symbol >= MOST_SYMBOLS or not needs_escape(table, symbol, escape):
@@ -120,12 +110,41 @@ def read_escaped(table, stream, many, escape, width):
     return text, state
 
 
-def bits_among(number, many):
-    """The bits of a number of `many` possible ones, 0 to many - 1."""
-    width, short = shape_among(many)
-    if number < short:
-        return bits_of(number, width)
-    return bits_of(number + short, width + 1)
+def packed_length(numbers, text, bits):
+    """The length of `pack` for a text with these numbers and the last state 0."""
+    counts = counts_by_rests(numbers, bits)
+    _, widths = parts_of(counts)
+    size = 1 << bits
+    spent, _ = spent_on(ways_by_steps(counts, places_by_steps(size, 0)), size, text, 0)
+    return sum(widths) + bits + spent
+
+
+def parts_of(counts):
+    """The numbers of which the header of counts is made, and how many bits each one has."""
+    left = sum_of(counts)
+    numbers = [left.bit_length() - 1]
+    widths = [SIZE_BITS]
+    ahead = -1
+    for symbol, count in counts:
+        number = count
+        many = left + 1
+        if symbol > ahead + 1:
+            # A count of 0 is always among the short numbers.
+            full, rest = divmod(symbol - ahead - 2, FULL_GROUP)
+            numbers += [0] + [FULL_GROUP] * full + [rest]
+            widths += [many.bit_length() - 1] + [GROUP_BITS] * (full + 1)
+            number = count - 1
+            many = left
+        width, short = shape_among(many)
+        if number < short:
+            numbers.append(number)
+            widths.append(width)
+        else:
+            numbers.append(number + short)
+            widths.append(width + 1)
+        left -= count
+        ahead = symbol
+    return numbers, widths
 
 
 def number_among(stream, at, many):
@@ -141,12 +160,6 @@ def shape_among(many):
     """How many bits the least ones of `many` numbers have, and how many numbers have not one bit more."""
     width = many.bit_length() - 1
     return width, (2 << width) - many
-
-
-def groups_of(many):
-    """The groups that tell that so many further symbols have the count 0."""
-    full, rest = divmod(many, FULL_GROUP)
-    return [1] * (GROUP_BITS * full) + bits_of(rest, GROUP_BITS)
 
 
 def header_at(stream, begin):
@@ -200,20 +213,25 @@ def part_at(stream, at, bits):
 
 def needs_escape(table, symbol, escape):
     """Whether a symbol is written as the escape of a table."""
-    return symbol == escape or symbol not in table.ways
+    return symbol == escape or symbol not in ways_of(table)
+
+
+def check_room(numbers, bits):
+    """Raises LimitExceeded if there are more symbols than states."""
+    if len(numbers) > 1 << bits:
+        raise LimitExceeded(1 << bits)
 
 
 def check_header_bits(stream):
     """Raises InvalidHeader for what is no list of bits."""
     if not isinstance(stream, list):
         raise InvalidHeader(-1)
-    at = first_wrong(stream, 1)
-    if at >= 0:
-        raise InvalidHeader(at)
+    if not are_bits(stream):
+        raise InvalidHeader(first_wrong(stream, 1))
 
 
 def check_escape(table, escape, width):
     """Raises InvalidBound for what is no symbol of a table, and what is no width."""
-    if not is_symbol(escape) or escape not in table.ways:
+    if not is_symbol(escape) or escape not in ways_of(table):
         raise InvalidBound("escape")
     check_within(width, 1, WIDEST, "width")

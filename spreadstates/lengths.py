@@ -1,9 +1,10 @@
 """How long streams are: of texts, of all texts, and in the long run."""
 
 from spreadstates.checks import check_many, check_within
-from spreadstates.coding import check_writing, written
+from spreadstates.coding import check_writing, spent_on
 from spreadstates.errors import InvalidBound, LimitExceeded
-from spreadstates.tables import check_size, check_state, check_table, check_work, many_wide
+from spreadstates.tables import check_size, check_state, check_table, check_work
+from spreadstates.tables import many_wide, reads_of, states_of, ways_of
 from spreadstates.wholes import is_integer, lowest, power
 
 MOST_LENGTHS = 200000
@@ -20,8 +21,8 @@ def length(table, text, last=0):
     """How many bits `write` of the same has."""
     check_writing(table, text)
     check_state(table, last, "last")
-    passed, _ = written(table, text, last)
-    return table.bits() + sum([bits for _, bits in passed])
+    bits, _ = spent_on(ways_of(table), table.size(), text, last)
+    return table.bits() + bits
 
 
 def lengths(table, text):
@@ -74,7 +75,7 @@ def text_at(table, many, number, last=0):
     check_many(many)
     check_state(table, last, "last")
     check_work(table, many, MOST_COUNTED)
-    if not is_integer(number) or not 0 <= number < power(len(table.ways), many):
+    if not is_integer(number) or not 0 <= number < power(len(ways_of(table)), many):
         raise InvalidBound("number")
     tally = Tally(table, many, True)
     levels = tally.levels(many, last)
@@ -82,7 +83,7 @@ def text_at(table, many, number, last=0):
     text = []
     spent = [0] * table.size()
     for left in range(many, 0, -1):
-        rows = [(other, texts_from(tally, other, left, levels[left], spent, cost)) for other in table.ways]
+        rows = [(other, texts_from(tally, other, left, levels[left], spent, cost)) for other in ways_of(table)]
         symbol, ahead = falls_in(rows, ahead)
         text.append(symbol)
         spent = costs_behind(table, symbol, spent)
@@ -105,7 +106,7 @@ def place_of(table, text, last=0):
     for left in range(1, many + 1):
         level = tally.next_level(level)
         at = many - left
-        for symbol in table.ways:
+        for symbol in ways_of(table):
             if symbol < text[at]:
                 place += texts_from(tally, symbol, left, level, spent[at], cost)
     return place + sum([texts for other, texts in tally.costs(sum(level), many) if other < cost])
@@ -130,9 +131,10 @@ class Tally:
 
     def __init__(self, table, many, is_by_cost):
         self.table = table
-        self.least = min([bits for _, bits, _ in table.reads])
-        self.most = max([bits for _, bits, _ in table.reads])
-        ways = table.size() * power(len(table.ways), many)
+        self.reads = reads_of(table)
+        self.least = min([bits for _, bits, _ in self.reads])
+        self.most = max([bits for _, bits, _ in self.reads])
+        ways = table.size() * power(len(ways_of(table)), many)
         self.slot = ways.bit_length() if is_by_cost else 0
 
     def first_level(self, last):
@@ -143,7 +145,7 @@ class Tally:
     def next_level(self, level):
         """The level for one symbol more."""
         sums = sums_of_blocks(level, self.most)
-        return [sums[bits][base >> bits] << ((bits - self.least) * self.slot) for _, bits, base in self.table.reads]
+        return [sums[bits][base >> bits] << ((bits - self.least) * self.slot) for _, bits, base in self.reads]
 
     def levels(self, many, last):
         """The levels for 0 to `many` symbols."""
@@ -193,11 +195,13 @@ def all_lengths(table, text):
 
 def costs_behind(table, symbol, costs):
     """What is spent in each state behind a symbol, if `costs` are spent in the states in which it is read."""
-    edge, wide, places = table.ways[symbol]
-    many = many_wide(edge, wide, table.size())
-    if many == len(places):
+    way = ways_of(table)[symbol]
+    edge, wide, _ = way
+    places = states_of(way)
+    if edge == 0:
         return costs_of_blocks(costs, places, wide)
     # The first states are reached from the last places, with one bit less.
+    many = many_wide(edge, wide, table.size())
     return costs_of_blocks(costs, places[many:], wide - 1) + costs_of_blocks(costs, places[:many], wide)
 
 
@@ -223,7 +227,7 @@ def counted_lengths(table, many):
 
 def texts_from(tally, symbol, left, level, spent, cost):
     """How many ways with this symbol first, of the level for `left` symbols, make a cost with what is spent."""
-    _, _, places = tally.table.ways[symbol]
+    places = states_of(ways_of(tally.table)[symbol])
     return sum([tally.number(level[state], left, cost - spent[state]) for state in places])
 
 
@@ -239,7 +243,7 @@ def sums_of_blocks(items, most):
 
 def hops_of(table, sign):
     """The tuples (cost, base, end) of all states: the bits times a sign, and the next states, ahead of `end`."""
-    return [(bits * sign, base, base + (1 << bits)) for _, bits, base in table.reads]
+    return [(bits * sign, base, base + (1 << bits)) for _, bits, base in reads_of(table)]
 
 
 def steps_of(hops):

@@ -10,7 +10,7 @@ from spreadstates.counts import by_rests, numbers_of
 from spreadstates.errors import InvalidBound, LimitExceeded
 from spreadstates.lengths import MOST_LENGTHS
 from spreadstates.makers import MAKERS, is_maker, least_cost, spread_by
-from spreadstates.tables import Table, check_work
+from spreadstates.tables import Table, check_work, ways_in, ways_of
 from spreadstates.wholes import is_integer
 
 MOST_PLACES = 256
@@ -27,7 +27,7 @@ def cost_of(table, text):
     """The least length of a text over all last states, without the bits of the first state."""
     check_writing(table, text)
     check_work(table, len(text), MOST_LENGTHS)
-    return least_cost(table.symbols, text)
+    return least_cost(ways_of(table), table.size(), text)
 
 
 def spread_number(counts):
@@ -85,7 +85,7 @@ def best_spread(counts, text):
     check_counts(counts)
     check_searching(counts, text)
     spreads = spreads_of(counts)
-    costs = [least_cost(spread, text) for spread in spreads]
+    costs = [spread_cost(spread, text) for spread in spreads]
     least = min(costs)
     return least, spreads[costs.index(least)], costs.count(least)
 
@@ -95,8 +95,8 @@ def standing(spread, text):
     check_spread(spread)
     counts = Table(spread).counts()
     check_searching(counts, text)
-    own = least_cost(spread, text)
-    costs = [least_cost(other, text) for other in spreads_of(counts)]
+    own = spread_cost(spread, text)
+    costs = [spread_cost(other, text) for other in spreads_of(counts)]
     less = len([cost for cost in costs if cost < own])
     same = costs.count(own)
     return less, same, len(costs) - less - same
@@ -109,7 +109,7 @@ def costs_by_makers(counts, text):
     check_symbols(text, dict(counts))
     if sum_of(counts) * len(text) > MOST_LENGTHS:
         raise LimitExceeded(MOST_LENGTHS)
-    return [(maker, least_cost(spread_by(maker, counts), text)) for maker in MAKERS]
+    return [(maker, spread_cost(spread_by(maker, counts), text)) for maker in MAKERS]
 
 
 def shortest_counts(text, bits, maker):
@@ -127,7 +127,7 @@ def shortest_counts(text, bits, maker):
     if comb(size - 1, len(numbers) - 1) > MOST_COUNTS:
         raise LimitExceeded(MOST_COUNTS)
     found = all_counts(symbols_of(numbers), size, len(numbers) - 1)
-    costs = [least_cost(spread_by(maker, counts), text) for counts in found]
+    costs = [spread_cost(spread_by(maker, counts), text) for counts in found]
     least = min(costs)
     return least, found[costs.index(least)]
 
@@ -144,8 +144,13 @@ def shortest_table(text, most, maker):
     found = []
     for bits in range(1, most + 1):
         if len(numbers) <= 1 << bits:
-            found.append((bits + least_cost(spread_by(maker, by_rests(numbers, bits)), text), bits))
+            found.append((bits + spread_cost(spread_by(maker, by_rests(numbers, bits)), text), bits))
     return min(found)
+
+
+def spread_cost(spread, text):
+    """The cost of a text with the table of a spread."""
+    return least_cost(ways_in(spread), len(spread), text)
 
 
 def many_spreads(counts):

@@ -3,18 +3,24 @@
 from spreadstates.checks import check_bits, check_counts, check_within, is_ascending, sum_of
 from spreadstates.errors import InvalidBound
 
+# So often a list may be put behind itself to find each item by a slice.
+MOST_ROUNDS = 16
+
 
 def spread_by_steps(counts, rare=()):
     """The spread that goes through the places by a step; rare symbols get the last places."""
     check_counts(counts)
     if not are_rare(rare, counts):
         raise InvalidBound("rare")
-    size = sum_of(counts)
+    runs = runs_of(counts)
+    if len(rare) == 0:
+        return laid_by_steps(runs)
+    size = len(runs)
     spread = [0] * size
     for at, symbol in enumerate(rare):
         spread[size - 1 - at] = symbol
     apart = set(rare)
-    laid = [symbol for symbol in runs_of(counts) if symbol not in apart]
+    laid = [symbol for symbol in runs if symbol not in apart]
     for place, symbol in zip(places_by_steps(size, len(rare)), laid):
         spread[place] = symbol
     return spread
@@ -64,17 +70,36 @@ def runs_of(counts):
     """The symbols of counts in ascending order, each as often as its count."""
     runs = []
     for symbol, count in counts:
-        runs.extend([symbol] * count)
+        runs += [symbol] * count
     return runs
+
+
+def step_of(size):
+    """The step for so many places."""
+    step = size // 2 + size // 8 + 3
+    return step + 1 if step & 1 == 0 else step
 
 
 def places_by_steps(size, many):
     """The places ahead of the last `many` ones, in the order in which the step reaches them."""
-    step = size // 2 + size // 8 + 3
-    if step & 1 == 0:
-        step += 1
-    places = [turn * step % size for turn in range(size)]
-    return [place for place in places if place < size - many]
+    step = step_of(size)
+    last = size - 1
+    places = [whole & last for whole in range(0, step * size, step)]
+    return [place for place in places if place < size - many] if many > 0 else places
+
+
+def laid_by_steps(runs):
+    """The spread by steps of what stands in a list, one behind the other."""
+    size = len(runs)
+    step = step_of(size)
+    # Each turn makes twice as many of the last bits of the product of both to those of 1: 3, 6, 12.
+    inverse = step
+    for _ in range(2):
+        inverse = inverse * (2 - step * inverse) % size
+    # A place has the item that many times as far in the list, which goes round.
+    if inverse <= MOST_ROUNDS:
+        return (runs * inverse)[::inverse]
+    return [runs[place * inverse % size] for place in range(size)]
 
 
 def turned_places(size):

@@ -6,7 +6,8 @@ from spreadstates.checks import check_many, check_stream, is_stream
 from spreadstates.coding import check_end, check_reading, check_writing
 from spreadstates.errors import InvalidBound
 from spreadstates.lengths import MOST_COUNTED, Tally, all_lengths, counted_lengths, falls_in, hops_of, levels_of
-from spreadstates.tables import check_table, check_work
+from spreadstates.reading import read_on
+from spreadstates.tables import check_table, check_work, count_in, reads_of, ways_of
 from spreadstates.wholes import bits_of, is_integer, lowest, number_of
 
 # More than all the bits that symbols can cost, for ends that are not reached.
@@ -18,22 +19,20 @@ def symbols_in(table, stream):
     check_table(table)
     check_stream(stream)
     at = table.bits()
-    if len(table.ways) == 1:
+    if len(ways_of(table)) == 1:
         return (0, None) if len(stream) == at else None
     if len(stream) < at:
         return None
-    idle = idle_runs(table)
-    state = number_of(stream[:at])
-    many = 0
-    while at < len(stream):
-        symbols, reader = idle[state]
-        _, bits, base = table.reads[reader]
-        if at + bits > len(stream):
-            return None
-        state = base + number_of(stream[at:at + bits])
-        at += bits
-        many += symbols + 1
-    return many, many + idle[state][0]
+    # So a reader goes through all states that need bits, and where others come ahead of them, they are told besides.
+    runs = runs_of(table)
+    rows = reads_of(table) if runs is None else runs
+    states, last, used = read_on(rows, number_of(stream[:at]), stream, at, len(stream), False)
+    if used < len(stream):
+        return None
+    if runs is None:
+        return len(states), len(states)
+    many = sum([runs[state][0] for state in states])
+    return many, many + runs[last][0] - 1
 
 
 def count_streams(table, many, *, begin=None, bits=None, last=None):
@@ -84,7 +83,7 @@ def stream_at(table, many, number, *, bits=None, last=None):
         rows = [(other, tally.number(levels[left][other], left, rest)) for other in range(base, base + (1 << width))]
         state, ahead = falls_in(rows, ahead)
         stream.extend(bits_of(state - base, width))
-        _, width, base = table.reads[state]
+        _, width, base = reads_of(table)[state]
         rest -= width
     return stream
 
@@ -94,7 +93,7 @@ def state_shares(table, many):
     check_table(table)
     check_many(many)
     check_work(table, many, MOST_COUNTED)
-    most = max([bits for _, bits, _ in table.reads])
+    most = max([bits for _, bits, _ in reads_of(table)])
     shares = [1] * table.size()
     for _ in range(many):
         shares = shares_behind(table, shares, most)
@@ -136,7 +135,7 @@ def completed(table, stream, many, last=None):
     state = levels[left].index(least, low)
     found = bits_of(state - low, used - len(stream))
     for turn in range(left - 1, -1, -1):
-        _, bits, base = table.reads[state]
+        _, bits, base = reads_of(table)[state]
         least -= bits
         state = levels[turn].index(least, base)
         found.extend(bits_of(state - base, bits))
@@ -146,7 +145,7 @@ def completed(table, stream, many, last=None):
 def idle_runs(table):
     """For each state, how many symbols are read from it on without bits, and the state behind them."""
     runs = []
-    for state, (_, bits, base) in enumerate(table.reads):
+    for state, (_, bits, base) in enumerate(reads_of(table)):
         if bits > 0:
             runs.append((0, state))
         else:
@@ -154,6 +153,17 @@ def idle_runs(table):
             symbols, behind = runs[base]
             runs.append((symbols + 1, behind))
     return runs
+
+
+def runs_of(table):
+    """For each state, how many symbols are read on by the next bits, how many these are, and their base.
+
+    It is None where all symbols cost bits: no symbol stands in more than half of the states.
+    """
+    if max([count_in(way) for way in ways_of(table).values()]) * 2 <= table.size():
+        return None
+    reads = reads_of(table)
+    return [(symbols + 1, reads[state][1], reads[state][2]) for symbols, state in idle_runs(table)]
 
 
 def ranges_along(table, stream, many):
@@ -176,7 +186,7 @@ def ranges_along(table, stream, many):
         ranges.append((left, base, low, used))
         if free > 0 or left == 0:
             return ranges, (left, low, low + (1 << free), used)
-        _, bits, base = table.reads[low]
+        _, bits, base = reads_of(table)[low]
         left -= 1
 
 
@@ -202,7 +212,7 @@ def streams_in(table, ranges, bits, last):
 def shares_behind(table, shares, most):
     """The shares of all states behind one symbol, times 2 ** `most`."""
     changes = [0] * (table.size() + 1)
-    for share, (_, bits, base) in zip(shares, table.reads):
+    for share, (_, bits, base) in zip(shares, reads_of(table)):
         part = share << (most - bits)
         changes[base] += part
         changes[base + (1 << bits)] -= part

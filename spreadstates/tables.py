@@ -8,17 +8,16 @@ from spreadstates.wholes import is_integer
 class Table:
     """A table with the states 0 to L - 1 for a spread of L symbols.
 
-    Nothing changes behind __init__, so the other files of the package read the attributes as they
-    are: `symbols` and `reads` have the symbol and the row of each state, `width` is R, and `ways`
-    has what `way_of` returns for each symbol, ascending.
+    `symbols` has the symbol of each state, and `width` is R. `ways` and `reads` are what `ways_of` and `reads_of`
+    return, None until they are first asked for: many tables are only written with, or only read with.
     """
 
     def __init__(self, spread):
         check_spread(spread)
         self.symbols = list(spread)
         self.width = len(spread).bit_length() - 1
-        self.ways = ways_of(spread)
-        self.reads = rows_of(self.ways, len(spread))
+        self.ways = None
+        self.reads = None
 
     def __eq__(self, other):
         return isinstance(other, Table) and self.symbols == other.symbols
@@ -37,20 +36,20 @@ class Table:
 
     def counts(self):
         """The tuples (symbol, count), ascending."""
-        return [(symbol, len(places)) for symbol, (_, _, places) in self.ways.items()]
+        return [(symbol, count_in(way)) for symbol, way in ways_of(self).items()]
 
     def row(self, state):
         """The tuple (symbol, bits, base) of a state."""
         check_state(self, state, "state")
-        return self.reads[state]
+        return reads_of(self)[state]
 
     def rows(self):
         """The rows of all states."""
-        return list(self.reads)
+        return list(reads_of(self))
 
     def before(self, symbol, state):
         """The tuple (state, bits, number) with which the symbol is read and leads to a state."""
-        if not is_symbol(symbol) or symbol not in self.ways:
+        if not is_symbol(symbol) or symbol not in ways_of(self):
             raise InvalidSymbol(symbol)
         check_state(self, state, "state")
         return way_back(self, symbol, state)
@@ -66,9 +65,10 @@ def table_of_rows(rows):
         if not is_row(row):
             raise InvalidSpread(at)
     table = Table([symbol for symbol, _, _ in rows])
-    if rows != table.reads:
+    reads = reads_of(table)
+    if rows != reads:
         at = 0
-        while rows[at] == table.reads[at]:
+        while rows[at] == reads[at]:
             at += 1
         raise InvalidSpread(at)
     return table
@@ -82,61 +82,83 @@ def is_row(value):
     return is_symbol(symbol) and is_integer(bits) and is_integer(base)
 
 
-def ways_of(spread):
+def ways_of(table):
+    """For each symbol of a table, ascending, what `way_of` returns."""
+    if table.ways is None:
+        table.ways = ways_in(table.symbols)
+    return table.ways
+
+
+def reads_of(table):
+    """The rows of all states of a table."""
+    if table.reads is None:
+        table.reads = rows_for(ways_of(table), len(table.symbols))
+    return table.reads
+
+
+def ways_in(spread):
     """For each symbol of a spread, ascending, what `way_of` returns."""
-    places = {}
+    places = {symbol: [] for symbol in sorted(set(spread))}
     for state, symbol in enumerate(spread):
-        places.setdefault(symbol, []).append(state)
-    return {symbol: way_of(places[symbol], len(spread)) for symbol in sorted(places)}
+        places[symbol].append(state)
+    size = len(spread)
+    return {symbol: way_of(found, size) for symbol, found in places.items()}
 
 
 def way_of(places, size):
-    """The tuple (edge, wide, places) of a symbol that is read in the states `places`.
+    """The tuple (edge, wide, fronts) of a symbol that is read in the states `places`, ascending.
 
-    A state x is reached with `wide` bits if L + x is at least `edge`, otherwise with one bit less;
-    and L + x without these bits is the n of the state ahead of it.
+    A state x is reached with `wide` bits if it is at least `edge`, otherwise with one bit less. L + x
+    without these bits is the n of the state ahead, which is fronts[n]: as n is from the count to twice
+    the count less 1, `fronts` has the places twice.
     """
     count = len(places)
     wide = size.bit_length() - count.bit_length()
-    return count << wide, wide, places
+    return (count << wide) - size, wide, places + places
 
 
-def rows_of(ways, size):
+def count_in(way):
+    """The count of the symbol that has a way."""
+    return len(way[2]) // 2
+
+
+def states_of(way):
+    """The states in which the symbol is read that has a way, ascending."""
+    fronts = way[2]
+    return fronts[len(fronts) // 2:]
+
+
+def rows_for(ways, size):
     """The rows of all states."""
     rows = [()] * size
-    for symbol, (edge, wide, places) in ways.items():
-        for base, state in zip(range(edge - size, size, 1 << wide), places):
-            rows[state] = (symbol, wide, base)
-        # Where a symbol has a power of two as its count, none of its states reads one bit less.
-        if edge > size:
-            rest = places[many_wide(edge, wide, size):]
-            for base, state in zip(range(0, edge - size, 1 << (wide - 1)), rest):
-                rows[state] = (symbol, wide - 1, base)
+    for symbol, way in ways.items():
+        lay_rows(rows, symbol, way, size)
     return rows
+
+
+def lay_rows(rows, symbol, way, size):
+    """Puts the rows of all states of a symbol where they stand in rows."""
+    edge, wide, fronts = way
+    for base, state in zip(range(edge, size, 1 << wide), fronts):
+        rows[state] = (symbol, wide, base)
+    # Where a symbol has a power of two as its count, none of its states reads one bit less.
+    if edge > 0:
+        rest = fronts[many_wide(edge, wide, size):]
+        for base, state in zip(range(0, edge, 1 << (wide - 1)), rest):
+            rows[state] = (symbol, wide - 1, base)
 
 
 def way_back(table, symbol, state):
     """What `before` returns for a symbol and a state of a table."""
-    edge, wide, places = table.ways[symbol]
+    edge, wide, fronts = ways_of(table)[symbol]
     whole = len(table.symbols) + state
-    bits = wide if whole >= edge else wide - 1
-    return places[(whole >> bits) - len(places)], bits, whole & ((1 << bits) - 1)
-
-
-def ways_back(table, symbol):
-    """What `before` returns for a symbol and all states of a table, in their order."""
-    found = [()] * table.size()
-    _, _, places = table.ways[symbol]
-    for place in places:
-        _, bits, base = table.reads[place]
-        for number in range(1 << bits):
-            found[base + number] = (place, bits, number)
-    return found
+    bits = wide if state >= edge else wide - 1
+    return fronts[whole >> bits], bits, whole & ((1 << bits) - 1)
 
 
 def many_wide(edge, wide, size):
     """How many states of a symbol read `wide` bits: the first ones of them."""
-    return (2 * size - edge) >> wide
+    return (size - edge) >> wide
 
 
 def check_table(table):

@@ -3,10 +3,10 @@
 from spreadstates.checks import check_bits, check_many, check_stream, check_text, check_within
 from spreadstates.checks import is_stream, is_symbol
 from spreadstates.coding import laid, number_at, places_in
-from spreadstates.counts import numbers_of
+from spreadstates.counts import by_rests, numbers_in, numbers_of
 from spreadstates.errors import InvalidBound, InvalidStream, InvalidSymbol
-from spreadstates.makers import table_by_steps
-from spreadstates.tables import Table, check_state, check_table, way_back
+from spreadstates.makers import counts_by_rests, table_by_steps
+from spreadstates.tables import Table, check_state, check_table, reads_of, way_back, ways_of
 from spreadstates.wholes import is_within
 
 MOST_WOVEN = 8
@@ -104,7 +104,7 @@ def read_after(first, tables, stream, many):
     state = number_at(stream, 0, at)
     text = []
     for _ in range(many):
-        symbol, bits, base = table.reads[state]
+        symbol, bits, base = reads_of(table)[state]
         state = base + number_at(stream, at, bits)
         at += bits
         text.append(symbol)
@@ -116,11 +116,12 @@ def tables_after(text, bits):
     """The table for a text, and those for what stands behind each of its symbols."""
     numbers = numbers_of(text)
     check_bits(bits)
-    first = table_by_steps(numbers, bits)
+    first = table_by_steps(by_rests(numbers, bits))
     behind = {}
     for symbol, follower in zip(text[:-1], text[1:]):
         behind.setdefault(symbol, []).append(follower)
-    return first, [(symbol, table_by_steps(numbers_of(behind[symbol]), bits)) for symbol in sorted(behind)]
+    return first, [(symbol, table_by_steps(counts_by_rests(numbers_in(behind[symbol]), bits)))
+                   for symbol in sorted(behind)]
 
 
 def woven_steps(tables, states, stream, many):
@@ -128,10 +129,11 @@ def woven_steps(tables, states, stream, many):
     width = tables[0].bits()
     fronts = [number_at(stream, turn * width, width) for turn in range(states)]
     at = states * width
+    rows = [reads_of(table) for table in tables]
     passed = []
     for index in range(many):
         turn = index % states
-        symbol, bits, base = tables[index % len(tables)].reads[fronts[turn]]
+        symbol, bits, base = rows[index % len(rows)][fronts[turn]]
         fronts[turn] = base + number_at(stream, at, bits)
         passed.append((symbol, at, at + bits))
         at += bits
@@ -164,7 +166,7 @@ def check_woven(states, stream, many):
 
 def check_has(table, symbol):
     """Raises InvalidSymbol for a symbol that a table has not."""
-    if symbol not in table.ways:
+    if symbol not in ways_of(table):
         raise InvalidSymbol(symbol)
 
 

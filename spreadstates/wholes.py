@@ -2,15 +2,33 @@
 
 from math import gcd
 
+# The places of the bits of a number, the greatest first, for each width up to one more than that of a state.
+PLACES = (
+    (),
+    (0,),
+    (1, 0),
+    (2, 1, 0),
+    (3, 2, 1, 0),
+    (4, 3, 2, 1, 0),
+    (5, 4, 3, 2, 1, 0),
+    (6, 5, 4, 3, 2, 1, 0),
+    (7, 6, 5, 4, 3, 2, 1, 0),
+    (8, 7, 6, 5, 4, 3, 2, 1, 0),
+    (9, 8, 7, 6, 5, 4, 3, 2, 1, 0),
+    (10, 9, 8, 7, 6, 5, 4, 3, 2, 1, 0),
+    (11, 10, 9, 8, 7, 6, 5, 4, 3, 2, 1, 0),
+    (12, 11, 10, 9, 8, 7, 6, 5, 4, 3, 2, 1, 0),
+)
+
 
 def is_integer(value):
     """Whether a value is an integer; True and False are none."""
-    return isinstance(value, int) and not isinstance(value, bool)
+    return isinstance(value, int) and value is not True and value is not False
 
 
 def is_within(value, least, most):
     """Whether a value is an integer from `least` to `most`."""
-    return is_integer(value) and least <= value <= most
+    return isinstance(value, int) and value is not True and value is not False and least <= value <= most
 
 
 def power(base, exponent):
@@ -32,10 +50,10 @@ def number_of(bits):
     """The number that a list of bits makes."""
     number = 0
     for bit in bits:
-        number = 2 * number + bit
+        number += number + bit
     return number
 
 
 def bits_of(number, width):
-    """The list of the bits of a number."""
-    return [number >> at & 1 for at in range(width - 1, -1, -1)]
+    """The list of the lowest bits of a number, of which there are at most 13."""
+    return [number >> at & 1 for at in PLACES[width]]
