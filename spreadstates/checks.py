@@ -25,19 +25,22 @@ def sum_if_numbers(value):
         return 0
     ahead = -1
     total = 0
-    # Lists are looked through often, so what `is_within` asks stands here without a call for each number.
+    # Lists are looked through often, so what `is_within` asks stands here without a call for each number,
+    # and the bounds above are looked at once: symbols ascend, and no number is greater than the sum.
     for item in value:
         if not isinstance(item, tuple) or len(item) != 2:
             return 0
         symbol, number = item
-        if not isinstance(symbol, int) or symbol is True or symbol is False:
+        if not isinstance(symbol, int) or symbol is True or symbol is False or symbol <= ahead:
             return 0
-        if not isinstance(number, int) or number is True:
-            return 0
-        if not ahead < symbol < MOST_SYMBOLS or not 1 <= number <= GREATEST_NUMBER:
+        if not isinstance(number, int) or number is True or number < 1:
             return 0
         ahead = symbol
         total += number
+    if ahead >= MOST_SYMBOLS:
+        return 0
+    if total > GREATEST_NUMBER and max([number for _, number in value]) > GREATEST_NUMBER:
+        return 0
     return total
 
 
@@ -82,17 +85,13 @@ def are_bits(items):
     return not strange and isinstance(sum(items), int)
 
 
-def are_integers(items):
-    """Whether all items of a list are integers."""
-    return not [item for item in items if not isinstance(item, int) or item is True or item is False]
-
-
 def is_known_text(value, known):
     """Whether a value is a text of symbols that a dict has as keys; none of its keys is anything else."""
-    if not isinstance(value, list) or len(value) > LONGEST_TEXT or not are_integers(value):
+    if not isinstance(value, list) or len(value) > LONGEST_TEXT:
         return False
-    # Texts are long, but have few unlike symbols.
-    return not [symbol for symbol in sorted(set(value)) if symbol not in known]
+    strange = [item for item in value
+               if not isinstance(item, int) or item is True or item is False or item not in known]
+    return not strange
 
 
 def is_ascending(value, known):
@@ -166,7 +165,8 @@ def check_flag(value, name):
 
 def check_many(many):
     """Raises InvalidBound for what is no number of symbols of a text."""
-    check_within(many, 0, LONGEST_TEXT, "many")
+    if not is_within(many, 0, LONGEST_TEXT):
+        raise InvalidBound("many")
 
 
 def check_numbers(numbers):

@@ -7,8 +7,8 @@ from spreadstates.tables import check_state, check_table, count_in, reads_of, st
 from spreadstates.wholes import PLACES, bits_of, number_of
 
 SCALE = 16
-# So many numbers are laid by words of bits that are made beforehand.
-LONG_ROW = 300
+# A stream of so many bits is put together of words of bits that are made beforehand.
+LONG_STREAM = 1500
 WORD_BITS = 8
 
 
@@ -112,7 +112,7 @@ def spent_on(ways, size, text, last):
 
 def bits_along(numbers, widths):
     """The lowest bits of some numbers, of each one as many as its width, at most 13."""
-    if len(numbers) < LONG_ROW:
+    if sum(widths) < LONG_STREAM:
         return [number >> at & 1 for number, width in zip(numbers, widths) for at in PLACES[width]]
     words = words_by_width()
     stream = []

@@ -22,7 +22,8 @@ def numbers_of(text):
 def by_rests(numbers, bits):
     """Counts in proportion to numbers; what is missing goes by the rests of the division."""
     check_counting(numbers, bits)
-    return named(numbers, shares_of([number for _, number in numbers], bits))
+    counts = shares_of([number for _, number in numbers], bits)
+    return [(symbol, count) for (symbol, _), count in zip(numbers, counts)]
 
 
 def by_product(numbers, bits):

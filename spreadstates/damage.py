@@ -5,6 +5,7 @@ from spreadstates.coding import check_end, check_reading, places_from, places_in
 from spreadstates.errors import InvalidBound, InvalidStream, LimitExceeded
 from spreadstates.streams import idle_runs
 from spreadstates.tables import check_size, check_state, check_table, reads_of, ways_of
+from spreadstates.turning import codes_of, first_unseen_way, pairs_behind, turned_pairs, verdicts_on
 from spreadstates.wholes import bits_of, is_within, number_of, power
 
 LONGEST_BITS = 12
@@ -98,12 +99,20 @@ def turn_counts(table, many):
     """How many turned bits of all right streams are told as short, left or another end, and how many are not."""
     check_turning(table, many)
     check_streams(table, many)
-    told = {"short": 0, "left": 0, "end": 0, "good": 0}
-    for stream, places in right_streams(table, many):
-        end = places[many][0]
-        for _, others in turned_readings(table, stream, places):
-            told[verdict_of(others, stream, many, end)[0]] += 1
-    return told["short"], told["left"], told["end"], told["good"]
+    if len(ways_of(table)) == 1:
+        # No symbol costs bits, so a turned bit makes another state, which is the end.
+        return 0, 0, table.size() * table.bits(), 0
+    width = table.bits()
+    codes = codes_of(table, many)
+    told = [0, 0, 0, 0]
+    pairs = {pair: 1 for state in range(table.size()) for pair in turned_pairs(state, width)}
+    paths = [1] * table.size()
+    for left in range(many, -1, -1):
+        for (state, other), turned in pairs.items():
+            found = verdicts_on(codes[left][state], codes[left][other], width)
+            told = [number + turned * more for number, more in zip(told, found)]
+        pairs, paths = pairs_behind(table, paths)
+    return told[0], told[1], told[2], told[3]
 
 
 def first_unseen(table, many, is_end_known):
@@ -111,12 +120,21 @@ def first_unseen(table, many, is_end_known):
     check_turning(table, many)
     check_flag(is_end_known, "is_end_known")
     check_streams(table, many)
-    for stream, places in right_streams(table, many):
-        end = places[many][0] if is_end_known else None
-        for at, others in turned_readings(table, stream, places):
-            if verdict_of(others, stream, many, end) == ("good",):
-                return stream, at
-    return None
+    width = table.bits()
+    if len(ways_of(table)) == 1:
+        return None if is_end_known else ([0] * width, 0)
+    codes = codes_of(table, many)
+    found = first_unseen_way(table, codes, 0 if is_end_known else width)
+    if found is None:
+        return None
+    stream = stream_on(table, codes, found[0], found[1])
+    places = places_in(table, stream, many)
+    end = places[many][0] if is_end_known else None
+    readings = turned_readings(table, stream, places)
+    at = 0
+    while verdict_of(readings[at], stream, many, end) != ("good",):
+        at += 1
+    return stream, at
 
 
 def is_change(value, many):
@@ -228,31 +246,22 @@ def with_bit(table, rests, reader, bit):
     return rests[base + 2 * number + bit], 0, 0
 
 
-def right_streams(table, many):
-    """All right streams in the order of lists, as tuples of a stream and the places of its reader."""
-    width = table.bits()
-    found = [(bits_of(state, width), [(state, width)]) for state in range(table.size())]
-    for _ in range(many):
-        longer = []
-        for stream, places in found:
-            state, used = places[-1]
-            _, bits, base = reads_of(table)[state]
-            for number in range(1 << bits):
-                longer.append((stream + bits_of(number, bits), places + [(base + number, used + bits)]))
-        found = longer
-    return found
+def stream_on(table, codes, state, way):
+    """The stream that begins in a state and goes on by a way of its code, which is among the last ones of the codes."""
+    most = max([bits for _, bits, _ in reads_of(table)])
+    spare = (len(codes) - 1) * most
+    length = codes[-1][state][way] >> table.bits()
+    return bits_of(state, table.bits()) + [way >> (spare - 1 - at) & 1 for at in range(length)]
 
 
 def turned_readings(table, stream, places):
-    """For each bit of a right stream, its index and the places of a reader of the stream with this bit turned."""
+    """For each bit of a right stream, the places of a reader of the stream with this bit turned."""
     readings = []
     used = 0
     for at, (state, behind) in enumerate(places):
-        # A base is a multiple of 2 ** bits, so a turned bit of a number is one of the next state.
-        for turned in range(used, behind):
-            other = state ^ (1 << (behind - 1 - turned))
+        for _, other in turned_pairs(state, behind - used)[::-1]:
             others = places_from(table, other, stream, behind, len(places) - 1 - at)
-            readings.append((turned, places[:at] + others))
+            readings.append(places[:at] + others)
         used = behind
     return readings
 

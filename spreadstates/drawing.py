@@ -23,7 +23,8 @@ def mean_from(table, weights, last):
     """The mean number of bits for one drawn symbol, as a fraction, if writing begins in the state `last`."""
     rows, first = rows_from(table, weights, last)
     # What is left at last are one place of each closed class, which leads to itself alone, and the first place.
-    for place in list(rows):
+    # The places that were found last go first, as few others lead to them.
+    for place in list(rows)[::-1]:
         if place != first and out_of(rows[place], place) > 0:
             leave_out(rows, place)
     row = rows[first]

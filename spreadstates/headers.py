@@ -10,7 +10,6 @@ from spreadstates.errors import InvalidBound, InvalidHeader, InvalidStream, Inva
 from spreadstates.makers import counts_by_rests, table_by_steps, ways_by_steps
 from spreadstates.spreads import places_by_steps
 from spreadstates.tables import check_state, check_table, reads_of, way_back, ways_of
-from spreadstates.wholes import number_of
 
 SIZE_BITS = 4
 GROUP_BITS = 2
@@ -129,19 +128,22 @@ def parts_of(counts):
         number = count
         many = left + 1
         if symbol > ahead + 1:
-            # A count of 0 is always among the short numbers.
+            # A count of 0 is always among the short numbers. Full groups are bits of 1, many of them in one number.
             full, rest = divmod(symbol - ahead - 2, FULL_GROUP)
-            numbers += [0] + [FULL_GROUP] * full + [rest]
-            widths += [many.bit_length() - 1] + [GROUP_BITS] * (full + 1)
+            runs, ones = divmod(GROUP_BITS * full, MOST_BITS)
+            numbers += [0] + [(1 << MOST_BITS) - 1] * runs + [(1 << ones) - 1, rest]
+            widths += [many.bit_length() - 1] + [MOST_BITS] * runs + [ones, GROUP_BITS]
             number = count - 1
             many = left
-        width, short = shape_among(many)
+        # So many of the least numbers have one bit less than the others.
+        width = many.bit_length()
+        short = (1 << width) - many
         if number < short:
             numbers.append(number)
-            widths.append(width)
+            widths.append(width - 1)
         else:
             numbers.append(number + short)
-            widths.append(width + 1)
+            widths.append(width)
         left -= count
         ahead = symbol
     return numbers, widths
@@ -149,17 +151,15 @@ def parts_of(counts):
 
 def number_among(stream, at, many):
     """A number of `many` possible ones, that begins at a bit of a stream, and the number of the bit behind it."""
-    width, short = shape_among(many)
+    width = many.bit_length() - 1
+    short = (2 << width) - many
+    behind = at + width
     number = part_at(stream, at, width)
     if number < short:
-        return number, at + width
-    return part_at(stream, at, width + 1) - short, at + width + 1
-
-
-def shape_among(many):
-    """How many bits the least ones of `many` numbers have, and how many numbers have not one bit more."""
-    width = many.bit_length() - 1
-    return width, (2 << width) - many
+        return number, behind
+    if behind == len(stream):
+        raise InvalidHeader(behind)
+    return number + number + stream[behind] - short, behind + 1
 
 
 def header_at(stream, begin):
@@ -208,7 +208,10 @@ def part_at(stream, at, bits):
     """The number that some bits of a header make; InvalidHeader if there are too few."""
     if at + bits > len(stream):
         raise InvalidHeader(len(stream))
-    return number_of(stream[at:at + bits])
+    number = 0
+    for bit in stream[at:at + bits]:
+        number += number + bit
+    return number
 
 
 def needs_escape(table, symbol, escape):

@@ -195,14 +195,13 @@ def all_lengths(table, text):
 
 def costs_behind(table, symbol, costs):
     """What is spent in each state behind a symbol, if `costs` are spent in the states in which it is read."""
-    way = ways_of(table)[symbol]
-    edge, wide, _ = way
-    places = states_of(way)
+    edge, wide, fronts = ways_of(table)[symbol]
+    many = many_wide(edge, wide, len(costs))
     if edge == 0:
-        return costs_of_blocks(costs, places, wide)
+        return costs_of_blocks(costs, fronts[:many], wide)
     # The first states are reached from the last places, with one bit less.
-    many = many_wide(edge, wide, table.size())
-    return costs_of_blocks(costs, places[many:], wide - 1) + costs_of_blocks(costs, places[:many], wide)
+    rest = fronts[many:len(fronts) // 2]
+    return costs_of_blocks(costs, rest, wide - 1) + costs_of_blocks(costs, fronts[:many], wide)
 
 
 def costs_of_blocks(costs, places, bits):

@@ -162,8 +162,15 @@ def runs_of(table):
     """
     if max([count_in(way) for way in ways_of(table).values()]) * 2 <= table.size():
         return None
-    reads = reads_of(table)
-    return [(symbols + 1, reads[state][1], reads[state][2]) for symbols, state in idle_runs(table)]
+    runs = []
+    for _, bits, base in reads_of(table):
+        if bits > 0:
+            runs.append((1, bits, base))
+        else:
+            # Where there are several symbols, no bits lead to a lesser state: its run is known.
+            symbols, more, behind = runs[base]
+            runs.append((symbols + 1, more, behind))
+    return runs
 
 
 def ranges_along(table, stream, many):

@@ -1,8 +1,8 @@
 """Tables of states: what is read in each state, and from where a state is reached."""
 
-from spreadstates.checks import check_spread, check_within, is_size, is_symbol
+from spreadstates.checks import check_spread, is_size, is_symbol
 from spreadstates.errors import InvalidBound, InvalidSpread, InvalidSymbol, LimitExceeded
-from spreadstates.wholes import is_integer
+from spreadstates.wholes import is_integer, is_within
 
 
 class Table:
@@ -138,14 +138,16 @@ def rows_for(ways, size):
 
 def lay_rows(rows, symbol, way, size):
     """Puts the rows of all states of a symbol where they stand in rows."""
-    edge, wide, fronts = way
-    for base, state in zip(range(edge, size, 1 << wide), fronts):
-        rows[state] = (symbol, wide, base)
-    # Where a symbol has a power of two as its count, none of its states reads one bit less.
-    if edge > 0:
-        rest = fronts[many_wide(edge, wide, size):]
-        for base, state in zip(range(0, edge, 1 << (wide - 1)), rest):
-            rows[state] = (symbol, wide - 1, base)
+    base, bits, fronts = way
+    step = 1 << bits
+    for state in fronts[:len(fronts) // 2]:
+        rows[state] = (symbol, bits, base)
+        base += step
+        # Once the next states go round, the further states read one bit less.
+        if base == size:
+            base = 0
+            bits -= 1
+            step >>= 1
 
 
 def way_back(table, symbol, state):
@@ -169,7 +171,8 @@ def check_table(table):
 
 def check_state(table, state, name):
     """Raises InvalidBound for what is no state of a table."""
-    check_within(state, 0, len(table.symbols) - 1, name)
+    if not is_within(state, 0, len(table.symbols) - 1):
+        raise InvalidBound(name)
 
 
 def check_size(table, most):
