@@ -24,8 +24,7 @@ def write(table, text, last=0):
 def read(table, stream, many):
     """The tuple (text, last, used) of reading `many` symbols."""
     check_reading(table, stream, many)
-    states, last, used = read_many(table, stream, 0, many, False)
-    return symbols_in_states(table, states), last, used
+    return read_many(table, stream, 0, many, False)
 
 
 def steps(table, stream, many):
@@ -39,11 +38,11 @@ def read_whole(table, stream, many, last=None):
     """The text alone, of a stream of which all bits are used, and which ends in `last` if it is not None."""
     check_reading(table, stream, many)
     check_end(table, last)
-    states, end, used = read_many(table, stream, 0, many, False)
+    text, end, used = read_many(table, stream, 0, many, False)
     check_used(stream, used)
     if last is not None and last != end:
         raise InvalidBound("last")
-    return symbols_in_states(table, states)
+    return text
 
 
 def cut(table, stream, many):
@@ -158,12 +157,6 @@ def read_from(table, first, stream, begin, many, is_full):
     if len(passed) < many:
         raise InvalidStream(len(stream))
     return passed, last, used
-
-
-def symbols_in_states(table, states):
-    """The text that is read in some states."""
-    symbols = table.symbols
-    return [symbols[state] for state in states]
 
 
 def places_in(table, stream, many):

@@ -111,7 +111,8 @@ def turn_counts(table, many):
         for (state, other), turned in pairs.items():
             found = verdicts_on(codes[left][state], codes[left][other], width)
             told = [number + turned * more for number, more in zip(told, found)]
-        pairs, paths = pairs_behind(table, paths)
+        if left > 0:
+            pairs, paths = pairs_behind(table, paths)
     return told[0], told[1], told[2], told[3]
 
 

@@ -2,7 +2,7 @@
 
 from spreadstates.blocks import block_from, block_of, fits, joined_block, least_names, parts_of
 from spreadstates.checks import LONGEST_TEXT, MOST_SYMBOLS, check_bits, check_stream, first_wrong, is_known_text
-from spreadstates.coding import bits_along, number_at, read_from, symbols_in_states
+from spreadstates.coding import bits_along, number_at, read_from
 from spreadstates.errors import InvalidBound, InvalidCall, LimitExceeded
 from spreadstates.lengths import MOST_LENGTHS, costs_behind
 from spreadstates.tables import Table, ways_of
@@ -33,8 +33,7 @@ class Desk:
     def __eq__(self, other):
         if not isinstance(other, Desk) or self.width != other.width or self.state != other.state:
             return False
-        own = [(block.name, block.text) for block in self.parts]
-        return self.named == other.named and own == [(block.name, block.text) for block in other.parts]
+        return self.named == other.named and self.blocks() == other.blocks()
 
     def tables(self):
         """The tuples (name, table), ascending."""
@@ -101,8 +100,8 @@ class Desk:
         texts = []
         for block in self.parts:
             table = self.named[block.name]
-            states, state, used = read_from(table, state, stream, used, len(block.text), False)
-            texts.append(symbols_in_states(table, states))
+            text, state, used = read_from(table, state, stream, used, len(block.text), False)
+            texts.append(text)
         return texts, state, used
 
     def best_last(self):

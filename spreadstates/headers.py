@@ -3,7 +3,7 @@
 from spreadstates.checks import MOST_BITS, MOST_SYMBOLS
 from spreadstates.checks import check_bits, check_counts, check_many, check_stream, check_text, check_within
 from spreadstates.checks import are_bits, first_wrong, is_symbol, sum_of
-from spreadstates.coding import bits_along, check_used, laid, number_at, read_many, spent_on, symbols_in_states
+from spreadstates.coding import bits_along, check_used, laid, number_at, read_many, spent_on
 from spreadstates.coding import written
 from spreadstates.counts import numbers_of
 from spreadstates.errors import InvalidBound, InvalidHeader, InvalidStream, InvalidSymbol, LimitExceeded
@@ -51,9 +51,9 @@ def unpack(stream, many):
     check_many(many)
     counts, at = header_at(stream, 0)
     table = table_by_steps(counts)
-    states, last, used = read_many(table, stream, at, many, False)
+    text, last, used = read_many(table, stream, at, many, False)
     check_used(stream, used)
-    return symbols_in_states(table, states), last
+    return text, last
 
 
 def shortest_pack(text, most):

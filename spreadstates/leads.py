@@ -73,7 +73,7 @@ def reaches_in(leads):
         for place in places:
             reach |= 1 << place
         reaches.append(reach)
-    for through, _ in enumerate(leads):
+    for through in range(len(leads)):
         beyond = reaches[through]
         reaches = [reach | beyond if reach >> through & 1 else reach for reach in reaches]
     return reaches

@@ -4,15 +4,15 @@ from spreadstates.checks import MOST_BITS
 from spreadstates.wholes import number_of
 
 # In streams of at least so many bits, the same words of bits come again and again.
-LONG_STREAM = 500
+LONG_STREAM = 4000
 NO_BIT = -1
 
 
 def read_on(reads, first, stream, begin, many, is_full):
-    """What reading goes through from a state and a bit of a stream on, the state that is reached, and the bit there.
+    """What is read from a state and a bit of a stream on, the state that is reached, and the bit there.
 
-    `many` symbols are read, or as many as there are bits for. `reads` has rows of states. What is gone
-    through are the states, or with `is_full` the tuples (state, symbol, bits, number).
+    `many` symbols are read, or as many as there are bits for. `reads` has rows of states. What is read
+    are the symbols of the rows, or with `is_full` the tuples (state, symbol, bits, number).
     """
     if len(stream) >= LONG_STREAM:
         return read_long(reads, first, stream, begin, many, is_full)
@@ -25,10 +25,14 @@ def read_on(reads, first, stream, begin, many, is_full):
         behind = at + bits
         if behind > end:
             return passed, state, at
+        # Frequent symbols have no bit or one, for which nothing needs to be put together.
         number = 0
-        for bit in stream[at:behind]:
-            number += number + bit
-        passed.append((state, symbol, bits, number) if is_full else state)
+        if bits > 1:
+            for bit in stream[at:behind]:
+                number += number + bit
+        elif bits == 1:
+            number = stream[at]
+        passed.append((state, symbol, bits, number) if is_full else symbol)
         state = base + number
         at = behind
     return passed, state, at
@@ -36,7 +40,7 @@ def read_on(reads, first, stream, begin, many, is_full):
 
 def read_long(reads, first, stream, begin, many, is_full):
     """What `read_on` returns, for a long stream."""
-    # The numbers of words are kept. What stands behind the last bit here is in no word that is kept.
+    # The numbers of words of bits are kept. What stands behind the last bit here is in no word that is kept.
     numbers = {}
     told = tuple(stream) + (NO_BIT,) * MOST_BITS
     passed = []
@@ -45,14 +49,19 @@ def read_long(reads, first, stream, begin, many, is_full):
     for _ in range(many):
         symbol, bits, base = reads[state]
         behind = at + bits
-        word = told[at:behind]
-        number = numbers.get(word)
-        if number is None:
-            if behind > len(stream):
+        if bits > 1:
+            word = told[at:behind]
+            number = numbers.get(word)
+            if number is None:
+                if behind > len(stream):
+                    return passed, state, at
+                number = number_of(word)
+                numbers[word] = number
+        else:
+            number = told[at] if bits == 1 else 0
+            if number < 0:
                 return passed, state, at
-            number = number_of(word)
-            numbers[word] = number
-        passed.append((state, symbol, bits, number) if is_full else state)
+        passed.append((state, symbol, bits, number) if is_full else symbol)
         state = base + number
         at = behind
     return passed, state, at

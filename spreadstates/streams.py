@@ -23,15 +23,15 @@ def symbols_in(table, stream):
         return (0, None) if len(stream) == at else None
     if len(stream) < at:
         return None
-    # So a reader goes through all states that need bits, and where others come ahead of them, they are told besides.
+    # A reader goes on as long as there are bits; where some symbols need none, runs of them are read at once.
     runs = runs_of(table)
     rows = reads_of(table) if runs is None else runs
-    states, last, used = read_on(rows, number_of(stream[:at]), stream, at, len(stream), False)
+    passed, last, used = read_on(rows, number_of(stream[:at]), stream, at, len(stream), False)
     if used < len(stream):
         return None
     if runs is None:
-        return len(states), len(states)
-    many = sum([runs[state][0] for state in states])
+        return len(passed), len(passed)
+    many = sum(passed)
     return many, many + runs[last][0] - 1
 
 

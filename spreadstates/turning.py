@@ -37,7 +37,7 @@ def turned_pairs(state, bits):
 
 
 def pairs_behind(table, paths):
-    """How many turned bits of a symbol lead to each pair, if paths lead to the states ahead; and the paths behind it."""
+    """How many turned bits of a symbol lead to each pair, if so many paths lead to the states; and the paths behind."""
     pairs = {}
     longer = [0] * table.size()
     for ways, (_, bits, base) in zip(paths, reads_of(table)):
