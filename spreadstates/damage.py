@@ -3,6 +3,7 @@
 from spreadstates.checks import check_flag, check_many, check_stream, check_within
 from spreadstates.coding import check_end, check_reading, places_from, places_in
 from spreadstates.errors import InvalidBound, InvalidStream, LimitExceeded
+from spreadstates.reading import read_on
 from spreadstates.streams import idle_runs
 from spreadstates.tables import check_size, check_state, check_table, reads_of, ways_of
 from spreadstates.turning import codes_of, first_unseen_way, pairs_behind, turned_pairs, verdicts_on
@@ -25,7 +26,11 @@ def verdict(table, stream, many, last=None):
     """What a reader of `many` symbols finds, who expects the end `last` if this is not None."""
     check_reading(table, stream, many)
     check_end(table, last)
-    return verdict_of(places_in(table, stream, many), stream, many, last)
+    width = table.bits()
+    if len(stream) < width:
+        return ("head",)
+    passed, state, used = read_on(reads_of(table), number_of(stream[:width]), stream, width, many, False)
+    return verdict_behind(len(passed), state, used, stream, many, last)
 
 
 def harm(table, stream, change, many, last=None):
@@ -113,7 +118,7 @@ def turn_counts(table, many):
             told = [number + turned * more for number, more in zip(told, found)]
         if left > 0:
             pairs, paths = pairs_behind(table, paths)
-    return told[0], told[1], told[2], told[3]
+    return tuple(told)
 
 
 def first_unseen(table, many, is_end_known):
@@ -161,9 +166,14 @@ def verdict_of(places, stream, many, last):
     """The verdict on a stream in which a reader comes to some places."""
     if not places:
         return ("head",)
-    if len(places) <= many:
-        return ("short", len(places) - 1)
-    state, used = places[many]
+    state, used = places[-1]
+    return verdict_behind(len(places) - 1, state, used, stream, many, last)
+
+
+def verdict_behind(read, state, used, stream, many, last):
+    """The verdict on a stream of which so many symbols are read, up to a state and a number of bits."""
+    if read < many:
+        return ("short", read)
     if used < len(stream):
         return ("left", used)
     if last is not None and state != last:

@@ -56,8 +56,8 @@ def rows_from(table, weights, last):
         at = ahead.pop()
         if numbers[at] not in rows:
             row = {BITS: spent[at], SYMBOLS: sum(only)}
-            for place, weight in zip(blocks[at][1:], only):
-                row[numbers[place]] = row.get(numbers[place], 0) + weight
+            for place, part in zip(blocks[at][1:], only):
+                row[numbers[place]] = row.get(numbers[place], 0) + part
             rows[numbers[at]] = row
             ahead += blocks[at][1:]
     return rows, numbers[last >> shift]
